@@ -1,0 +1,1 @@
+"""Duskisles: parts of a chip go dark while the rest works."""
