@@ -1,10 +1,11 @@
-"""The examples of the document for the modules that there are, as they stand there (examples.txt)."""
+"""The examples of the document for the modules that there are, as they stand there (examples.txt), and of README.md."""
 
 import ast
 import os
+import re
 import unittest
 
-PATH = os.path.join(os.path.dirname(os.path.abspath(__file__)), "examples.txt")
+HERE = os.path.dirname(os.path.abspath(__file__))
 
 
 def examples(text):
@@ -35,14 +36,21 @@ def answer(code, names):
 
 class ExamplesTest(unittest.TestCase):
 
-    def test_examples(self):
-        with open(PATH, encoding="utf-8") as file:
-            rows = list(examples(file.read()))
+    def play(self, text):
         names = {}
+        rows = list(examples(text))
         for number, code, told in rows:
-            with self.subTest(line=number):
+            with self.subTest(line=number, code=code):
                 self.assertEqual(answer(code, names), told)
         self.assertGreaterEqual(len(rows), 5)
+
+    def test_document(self):
+        with open(os.path.join(HERE, "examples.txt"), encoding="utf-8") as file:
+            self.play(file.read())
+
+    def test_readme(self):
+        with open(os.path.join(os.path.dirname(HERE), "README.md"), encoding="utf-8") as file:
+            self.play("".join(re.findall(r"```\n(>>> .*?)```", file.read(), re.DOTALL)))
 
 
 if __name__ == "__main__":

@@ -46,6 +46,12 @@ class NamesTest(unittest.TestCase):
                       ({},), (("still",),), ["still"], "still", {"still": 1}, None, True):
             self.assertFalse(is_words(value, WORDS), value)
 
+    def test_words_are_strings_and_the_others_a_tuple(self):
+        for value in ((1,), (None,), ((),), (("a",),)):
+            self.assertIs(is_words(value, (1, None, (), ("a",))), False)
+        for words in [["a", "b"], "ab", {"a": 1}] + PLAIN + STRINGS:
+            self.assertIs(is_words(("a",), words), False)
+
     def test_words_hang_on_the_tuple_that_is_passed(self):
         self.assertTrue(is_words(("lit",), ("lit", "go")))
         self.assertFalse(is_words(("still",), ("lit", "go")))

@@ -83,6 +83,9 @@ class WireTest(unittest.TestCase):
         self.assertEqual(wire.owners(), ("a", "c"))
         self.assertEqual(wire.lines(), ("b", "e", "f"))
         self.assertEqual(wire.places(), ("b", "d"))
+        many = [Clamp(place, owner, line=(place, owner)) for place, owner in ("kf", "ja", "ig", "hb", "lc")]
+        wire = Wire("x", "a", "b", *many)
+        self.assertEqual([wire.owners(), wire.lines(), wire.places()], [tuple("abcfg"), tuple("abcfghijkl"), tuple("hijkl")])
         bare = Wire("x", "a", "b", Pass("shore"))
         self.assertEqual([bare.owners(), bare.lines(), bare.places()], [(), (), ()])
         for told in (wire.owners(), wire.lines(), wire.places()):

@@ -1,0 +1,76 @@
+"""The interface: the names and the parameters that stand in the document, and methods that stand in their class itself."""
+
+import importlib
+import inspect
+import unittest
+
+ROWS = "sleep=('still', 'shut', 'save', 'dark'), wake=('lit', 'reset', 'back', 'open', 'go')"
+FUNCTIONS = {
+    "names.is_integer": "(value)", "names.is_name": "(value)", "names.is_lead": "(value)", "names.is_words": "(value, words)",
+    "dark.dark_isles": "(chip, away)", "dark.dusty": "(lead, dark)", "dark.way": "(chip, away, name)",
+    "dark.under": "(chip, *names)", "dark.dusty_leads": "(chip, away)",
+    "walks.along": "(chip, name, *, begins, dark=(), shut=(), held=())", "walks.walk": "(chip, name, state)",
+    "walks.source": "(chip, name, state)",
+    "needs.sleepless": "(chip)", "needs.reasons": "(chip)", "needs.lets_reasons": "(chip, thing)",
+    "keepers.own_states": "(isle)",
+}
+HANDED = {"handed": "(self, mark, *, dark, dusty, shut, held)", "propped": "(self, *, on=False, line=())"}
+CLASSES = {
+    "isles.Isle": {"__init__": f"(self, name, *, kept=1, plain=1, leash=(), needs=(), sleeps=True, {ROWS}, turns=())",
+                   "changed": "(self, **parts)", "__eq__": "(self, other)", "__repr__": "(self)"},
+    "stations.Station": HANDED,
+    "stations.Pass": {"__init__": "(self, on)", **HANDED},
+    "stations.Clamp": {"__init__": "(self, on, owner, *, gives=0, line=())", **HANDED},
+    "stations.Holding": {"__init__": "(self, on, owner, *, line=())", **HANDED},
+    "wires.Wire": {"__init__": "(self, name, driver, reader, *stations)", "of": "(name, driver, reader, stations)",
+                   "__len__": "(self)", "owners": "(self)", "lines": "(self)", "places": "(self)", "__eq__": "(self, other)",
+                   "__repr__": "(self)"},
+    "chips.Chip": {"__init__": "(self, *isles, wires=(), shore=1)", "wire": "(self, name)", "__contains__": "(self, name)",
+                   "__getitem__": "(self, at)", "__len__": "(self)", "__eq__": "(self, other)", "__repr__": "(self)",
+                   "with_isles": "(self, *isles)", "with_wires": "(self, *wires)", "without_wires": "(self, *names)",
+                   "__or__": "(self, other)", "renamed": "(self, names)", "of": "(isles, wires=(), shore=1)", "read": "(text)",
+                   "__str__": "(self)"},
+    "needs.Sleepers": {"__init__": "(self, chip, *names)", "of": "(chip, names)", "__contains__": "(self, name)",
+                       "__len__": "(self)", "joined": "(self, other)", "common": "(self, other)", "within": "(self, other)",
+                       "__eq__": "(self, other)", "order": "(self)", "deeds": "(self)", "every": "(chip)", "widest": "(chip)"},
+    "keepers.Keeper": {"__init__": "(self, isle)", "set_own": "(self, value)", "options": "(self)", "__call__": "(self, event)",
+                       "do": "(self, *events)"},
+}
+PROPERTIES = {
+    "isles.Isle": "name kept plain leash needs sleeps sleep wake turns size", "stations.Station": "on owner gives line",
+    "stations.Pass": "on owner gives line", "stations.Clamp": "on owner gives line", "stations.Holding": "on owner gives line",
+    "wires.Wire": "name driver reader stations", "chips.Chip": "names wires shore questions", "needs.Sleepers": "chip names",
+    "keepers.Keeper": "isle post flags own",
+}
+
+
+def thing_of(name):
+    module, part = name.split(".")
+    return getattr(importlib.import_module("duskisles." + module), part)
+
+
+class InterfaceTest(unittest.TestCase):
+
+    def test_functions(self):
+        for name, told in FUNCTIONS.items():
+            self.assertEqual(str(inspect.signature(thing_of(name))), told, name)
+
+    def test_methods(self):
+        for name, methods in CLASSES.items():
+            for method, told in methods.items():
+                self.assertIn(method, vars(thing_of(name)), name)
+                self.assertEqual(str(inspect.signature(getattr(thing_of(name), method))), told, (name, method))
+
+    def test_properties(self):
+        for name, properties in PROPERTIES.items():
+            for each in properties.split():
+                self.assertIsInstance(vars(thing_of(name)).get(each), property, (name, each))
+                self.assertEqual(vars(thing_of(name))[each].fset is None, each != "own", (name, each))
+
+    def test_everything_is_defined_in_its_own_file(self):
+        for name in [*FUNCTIONS, *CLASSES]:
+            self.assertEqual(thing_of(name).__module__, "duskisles." + name.split(".")[0])
+
+
+if __name__ == "__main__":
+    unittest.main()
