@@ -6,6 +6,7 @@ from duskisles.chipwriting import chip_lines
 from duskisles.errors import InvalidChip, InvalidName, NoIsle, NoWire
 from duskisles.isles import Isle
 from duskisles.names import is_name, is_own_name
+from duskisles.plans import Plan
 from duskisles.stations import Clamp, Holding, Pass
 from duskisles.wires import Wire
 
@@ -20,6 +21,7 @@ class Chip:
         self._isles = {isle.name: isle for isle in isles}
         self._wires = {wire.name: wire for wire in wires}
         self._shore = shore
+        self._plan = Plan(self._isle_row(), self._wire_row())
         self._questions = (*[("isle", name) for name in self._names], *[("wire", name) for name in self._wire_names])
 
     @classmethod
@@ -72,6 +74,10 @@ class Chip:
         if not is_name(name) or name not in self._wires:
             raise NoWire(name)
         return self._wires[name]
+
+    def plan(self):
+        """The plan of its isles and wires."""
+        return self._plan
 
     def with_isles(self, *isles):
         """The chip in which these isles stand in the place of those of the same names, or are added."""

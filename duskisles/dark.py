@@ -1,13 +1,15 @@
 """Which isles are dark, and which leads are dusty by that."""
 
-from duskisles.links import check_isles, leashed, leashes
-from duskisles.paths import least_path, reached
+from duskisles.links import check_isles, leashes
+from duskisles.paths import least_path
+from duskisles.tracks import mask_of
 
 
 def dark_isles(chip, away):
     """The ascending tuple of the isles that are dark if exactly these are away."""
     check_isles(chip, away)
-    return reached(away, leashed(chip))
+    plan = chip.plan()
+    return plan.names_in(plan.dark_mask(mask_of(away, plan.bits)))
 
 
 def dusty(lead, dark):
@@ -25,7 +27,8 @@ def way(chip, away, name):
 def under(chip, *names):
     """The ascending tuple of these isles and of all to which ways of leashes lead from them."""
     check_isles(chip, names)
-    return reached(names, leashes(chip))
+    plan = chip.plan()
+    return plan.names_in(plan.closed(mask_of(names, plan.bits), plan.under_masks))
 
 
 def dusty_leads(chip, away):

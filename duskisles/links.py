@@ -15,11 +15,6 @@ def leashes(chip):
     return {name: chip[name].leash for name in chip.names}
 
 
-def leashed(chip):
-    """For each isle those in whose leash it is, by names."""
-    return {name: [other for other in chip.names if name in chip[other].leash] for name in chip.names}
-
-
 def needed(chip):
     """For each isle those that it needs."""
     return {name: chip[name].needs for name in chip.names}

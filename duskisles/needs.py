@@ -3,13 +3,13 @@
 from duskisles.errors import CannotSleep
 from duskisles.links import check_isles, needed, needing
 from duskisles.names import is_integer
-from duskisles.paths import least_path, reached
+from duskisles.paths import least_path
 
 
 def sleepless(chip):
     """The ascending tuple of the sleepless isles."""
-    starts = [name for name in chip.names if not chip[name].sleeps or _ring(chip, name) is not None]
-    return reached(starts, needed(chip))
+    plan = chip.plan()
+    return plan.names_in(plan.sleepless_mask)
 
 
 def reasons(chip):

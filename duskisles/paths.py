@@ -1,18 +1,6 @@
 """Paths from name to name. What comes next is told by a dict from each name to a row of names."""
 
 
-def reached(starts, onward):
-    """The ascending tuple of the starts and of all names to which paths lead from them."""
-    met = []
-    ahead = list(starts)
-    while ahead:
-        name = ahead.pop()
-        if name not in met:
-            met.append(name)
-            ahead.extend(list(onward[name]))
-    return tuple(sorted(met))
-
-
 def least_path(start, goals, onward):
     """The shortest tuple of names from the start to one of the goals, of several the least; None if there is none."""
     paths = [(start,)]

@@ -1,6 +1,7 @@
 """Walks along wires: which mark is behind the driver and behind each station."""
 
-from duskisles.dark import dark_isles, dusty
+from duskisles.dark import dusty
+from duskisles.moves import away_mask, driver_mark, shut_mask
 from duskisles.stations import Holding
 
 
@@ -17,54 +18,26 @@ def along(chip, name, *, begins, dark=(), shut=(), held=()):
 
 def walk(chip, name, state):
     """The marks behind the driver and behind each station in a state."""
-    driver = chip.wire(name).driver
-    dark = dark_in(chip, state)
-    return along(chip, name, begins=first_mark(chip, driver, state, dark), dark=dark, shut=shut_in(chip, state),
-                 held=held_on(chip, name, state))
+    wire = chip.wire(name)
+    plan = chip.plan()
+    track = plan.tracks[chip.wires.index(wire.name)]
+    dark = plan.dark_mask(away_mask(state[0]))
+    return along(chip, name, begins=driver_mark(plan, state[0], track, dark), dark=plan.names_in(dark),
+                 shut=plan.names_in(shut_mask(state[0])), held=track.held_in(state[1]))
 
 
 def source(chip, name, state):
     """Where the mark at the end of the wire comes from in a state: the last cause along the wire."""
     stations = chip.wire(name).stations
-    dark = dark_in(chip, state)
-    shut = shut_in(chip, state)
+    plan = chip.plan()
+    dark = plan.names_in(plan.dark_mask(away_mask(state[0])))
+    shut = plan.names_in(shut_mask(state[0]))
     found = ("driver",)
     for index, station in enumerate(stations):
         cause = _cause(station, dark, shut)
         if cause is not None:
             found = (cause, index)
     return found
-
-
-def dark_in(chip, state):
-    """The ascending tuple of the isles that are dark in a state."""
-    return dark_isles(chip, [name for name, isle in zip(chip.names, state[0]) if isle[4]])
-
-
-def shut_in(chip, state):
-    """The ascending tuple of the isles that are shut in a state."""
-    return tuple([name for name, isle in zip(chip.names, state[0]) if isle[3]])
-
-
-def held_on(chip, name, state):
-    """The held marks of the wire with this name in a state, a tuple."""
-    begin = sum([_count_holding(chip.wire(other)) for other in chip.wires if other < name])
-    return state[1][begin:begin + _count_holding(chip.wire(name))]
-
-
-def first_mark(chip, driver, state, dark):
-    """The mark behind a driver in a state in which these isles are dark."""
-    if driver == "shore":
-        return "clean"
-    kept, plain = state[0][chip.names.index(driver)][5:7]
-    if driver in dark or kept == "dust" or plain == "dust":
-        return "dust"
-    return "older" if kept == "older" else "clean"
-
-
-def _count_holding(wire):
-    """How many holding clamps a wire has."""
-    return len([station for station in wire.stations if isinstance(station, Holding)])
 
 
 def _held_marks(wire, held):

@@ -13,8 +13,16 @@ FUNCTIONS = {
     "walks.source": "(chip, name, state)",
     "needs.sleepless": "(chip)", "needs.reasons": "(chip)", "needs.lets_reasons": "(chip, thing)",
     "keepers.own_states": "(isle)",
+    "marks.begin": "(chip)", "marks.events_from": "(chip, state)", "marks.step": "(chip, state, event)",
+    "marks.bad_moments": "(chip, state)", "marks.is_bad": "(chip, state, question)",
+    "machines.parted": "(chip, events, *, logic=None, start=None, dust=None)",
+    "cones.cone": "(chip, question)", "cones.full": "(chip, question)", "cones.reads": "(chip, question, name)",
+    "stands.first_stand": "(chip, question, name)", "stands.group": "(chip, question, name, stand)",
+    "stands.next_stands": "(chip, question, name, stand)", "stands.stands": "(chip, question, name)",
+    "stands.label": "(chip, question, name, stand)",
 }
 HANDED = {"handed": "(self, mark, *, dark, dusty, shut, held)", "propped": "(self, *, on=False, line=())"}
+MACHINE = {"registers": "(self, name)", "taken": "(self, name)", "do": "(self, *events)"}
 CLASSES = {
     "isles.Isle": {"__init__": f"(self, name, *, kept=1, plain=1, leash=(), needs=(), sleeps=True, {ROWS}, turns=())",
                    "changed": "(self, **parts)", "__eq__": "(self, other)", "__repr__": "(self)"},
@@ -35,12 +43,23 @@ CLASSES = {
                        "__eq__": "(self, other)", "order": "(self)", "deeds": "(self)", "every": "(chip)", "widest": "(chip)"},
     "keepers.Keeper": {"__init__": "(self, isle)", "set_own": "(self, value)", "options": "(self)", "__call__": "(self, event)",
                        "do": "(self, *events)"},
+    "weaves.Weave": {"__init__": "(self, chip)", "of": "(chip, events)", "do": "(self, *events)", "undo": "(self, count=1)",
+                     "trial": "(self)", "on_trial": "(self, work)", "__call__": "(self, event)", "__contains__": "(self, event)",
+                     "__len__": "(self)", "states": "(self)", "twin": "(self)", "__eq__": "(self, other)"},
+    "logics.Logic": {"__call__": "(self, name, registers, taken)"}, "logics.Counting": {"__call__": "(self, name, registers, taken)"},
+    "logics.Adding": {"__call__": "(self, name, registers, taken)"},
+    "logics.Mixing": {"__init__": "(self, a, b, c, *, modulus=97)", "__call__": "(self, name, registers, taken)"},
+    "machines.Machine": MACHINE,
+    "machines.Still": {"__init__": "(self, chip, logic=None, *, start=None)", **MACHINE},
+    "machines.Dusk": {"__init__": "(self, chip, logic=None, *, start=None, dust=None)", "shadow": "(self, name)", **MACHINE},
 }
 PROPERTIES = {
     "isles.Isle": "name kept plain leash needs sleeps sleep wake turns size", "stations.Station": "on owner gives line",
     "stations.Pass": "on owner gives line", "stations.Clamp": "on owner gives line", "stations.Holding": "on owner gives line",
     "wires.Wire": "name driver reader stations", "chips.Chip": "names wires shore questions", "needs.Sleepers": "chip names",
-    "keepers.Keeper": "isle post flags own",
+    "keepers.Keeper": "isle post flags own", "weaves.Weave": "chip events state moments first",
+    "machines.Machine": "chip moment state ticking", "machines.Still": "chip moment state ticking",
+    "machines.Dusk": "chip moment state ticking",
 }
 
 

@@ -199,7 +199,8 @@ class LanguageTest(unittest.TestCase):
         self.assertEqual(sorted(properties & methods), [])
         stored = {node.attr for tree in trees for node in ast.walk(tree)
                   if isinstance(node, ast.Attribute) and isinstance(node.ctx, ast.Store)}
-        self.assertEqual(sorted(stored & (properties | methods)), [name for name in ("own",) if name in stored])
+        decorated = {node.name for each in classes for node in each.body if isinstance(node, ast.FunctionDef)} - methods
+        self.assertEqual(sorted(stored & (decorated | methods)), [name for name in ("own",) if name in stored])
 
     def test_strings(self):
         for name, text, tree in files():
