@@ -1,6 +1,6 @@
 """Looks: what is read of an isle, and the stands, groups and next stands that come of it."""
 
-from duskisles.posts import FIRST_OWN, behind_event, keeper_options
+from duskisles.posts import FIRST_OWN, behind_event, keeper_options, next_word
 
 # The phases that are told apart where the phase is read; the others are one.
 ENDS = ("up", "asleep")
@@ -16,7 +16,9 @@ class Look:
         self.read_flags = read_flags
         self.whole = whole
         self.awake = awake
-        self.groups = {}
+        # What was found already, as groups are asked for again and again.
+        self.found_groups = {}
+        self.found_steps = {}
 
     def words(self):
         """The tuple of the words for what is read."""
@@ -26,40 +28,25 @@ class Look:
         """The stand of the beginning."""
         return self._seen(FIRST_OWN)
 
-    def moves(self, stand):
-        """The list of the pairs (event, what is behind it) for the events of the keeper, whatever is behind them."""
-        if self.awake:
-            return []
-        return [(event, self._seen(behind_event(self.of_isle, stand, event)))
-                for event in keeper_options(self.of_isle, stand)]
-
-    def is_silent(self, stand, other):
-        """Whether an event that leads from the one to the other is silent."""
-        if self.whole or stand[2:] != other[2:]:
-            return False
-        return not self.read_flags[0] or (stand[0] not in ENDS and other[0] not in ENDS)
-
     def group_of(self, stand):
         """The ascending tuple of the members of the group of a stand."""
-        if stand not in self.groups:
-            met = [stand]
-            ahead = [stand]
-            while ahead:
-                member = ahead.pop()
-                fresh = [other for _, other in self.moves(member) if self.is_silent(member, other) and other not in met]
-                met.extend(fresh)
-                ahead.extend(fresh)
-            self.groups[stand] = tuple(sorted(set(met)))
-        return self.groups[stand]
+        if stand not in self.found_groups:
+            self.found_groups[stand] = tuple(sorted(list(self._ways(stand))))
+        return self.found_groups[stand]
 
-    def loud_moves(self, stand):
-        """The list of the pairs (event, next stand) for the events that are not silent from the group of a stand."""
-        return [(event, other) for member in self.group_of(stand) for event, other in self.moves(member)
-                if not self.is_silent(member, other)]
+    def steps_from(self, stand):
+        """The ascending tuple of the pairs (next stand, word), word being that of the deed of a whole isle, if one is
+        done, or None."""
+        if stand not in self.found_steps:
+            loud = [(other, self._word(event, stand)) for member in self.group_of(stand)
+                    for event, other in self._moves(member) if not self._is_silent(member, other)]
+            words = {other: word for other, word in loud}
+            self.found_steps[stand] = tuple([(other, words[other]) for other in sorted(list(words))])
+        return self.found_steps[stand]
 
     def onward(self, stand):
         """The ascending tuple of the next stands."""
-        return tuple(sorted({other for _, other in self.loud_moves(stand)}))
+        return tuple([other for other, _ in self.steps_from(stand)])
 
     def every(self):
         """The list of all stands: the first one, and behind each those of its next ones that were not told yet."""
@@ -71,6 +58,15 @@ class Look:
             told += 1
         return met
 
+    def events_to(self, stand, other):
+        """The list of silent events, and at its end one that is not silent, that lead from a stand to a next one."""
+        ways = self._ways(stand)
+        for member in ways:
+            for event, behind in self._moves(member):
+                if behind == other and not self._is_silent(member, behind):
+                    return [*ways[member], event]
+        return []
+
     def label_of(self, stand):
         """The label of a stand."""
         phase = None
@@ -78,6 +74,36 @@ class Look:
             phase = stand[0] if stand[0] in ENDS else "between"
         return (phase, *stand[2:])
 
+    def _ways(self, stand):
+        """A dict from each member of the group of a stand to the list of the silent events that lead there."""
+        ways = {stand: []}
+        ahead = [stand]
+        while ahead:
+            member = ahead.pop()
+            for event, other in self._moves(member):
+                if other not in ways and self._is_silent(member, other):
+                    ways[other] = [*ways[member], event]
+                    ahead.append(other)
+        return ways
+
+    def _moves(self, stand):
+        """The list of the pairs (event, what is behind it) for the events of the keeper, as if it were alone."""
+        if self.awake:
+            return []
+        return [(event, self._seen(behind_event(self.of_isle, stand, event)))
+                for event in keeper_options(self.of_isle, stand)]
+
+    def _is_silent(self, stand, other):
+        """Whether an event that leads from the one to the other is silent."""
+        if self.whole or stand[2:] != other[2:]:
+            return False
+        return not self.read_flags[0] or (stand[0] not in ENDS and other[0] not in ENDS)
+
+    def _word(self, event, stand):
+        """The word of an event of a whole isle, or None."""
+        return next_word(self.of_isle, stand) if self.whole and event[0] == "deed" else None
+
     def _seen(self, own):
         """An own state with None for the flags that are not read."""
-        return (own[0], own[1], *[flag if is_read else None for flag, is_read in zip(own[2:], self.read_flags[1:])])
+        flags = [flag if is_read else None for flag, is_read in zip(own[2:], self.read_flags[1:])]
+        return (own[0], own[1], *flags)

@@ -53,8 +53,9 @@ def events_at(plan, isles):
     """The list of the events that can come where these tuples begin with posts and flags."""
     events = []
     for index, isle in enumerate(plan.isle_row):
-        options = keeper_options(isle, isles[index])
-        events.extend(list(options if deed_can_come(plan, isles, index) else options[1:]))
+        # A deed is forbidden only out of up and asleep, and there are no turns out of these.
+        if deed_can_come(plan, isles, index):
+            events.extend(list(keeper_options(isle, isles[index])))
         if isles[index][2]:
             events.append(("tick", isle.name))
     events.append(("tick", "shore"))

@@ -20,6 +20,8 @@ class Plan:
         self.needed_masks = _onward(self.need_masks)
         self.sleepless_mask = _sleepless(isles, self.needed_masks)
         self.tracks = _tracks(wires, self.bits)
+        # Scopes of questions that were asked already, by question.
+        self.scopes = {}
 
     def dark_mask(self, away):
         """The isles that are dark if these are away."""

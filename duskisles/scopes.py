@@ -9,7 +9,6 @@ class Scope:
     """The cone of a question of a chip. Sets of isles are bits."""
 
     def __init__(self, chip, question):
-        check_question(chip, question)
         plan = chip.plan()
         self.of_plan = plan
         self.track = None
@@ -27,6 +26,7 @@ class Scope:
         away = plan.closed(powered, plan.under_masks)
         self.cone_bits = plan.closed(away | clock | shut, plan.needed_masks)
         self.read_bits = (plan.phase_bits(self.cone_bits), clock, shut, away)
+        self.looks = [self._look_at(name) for name in self.cone_names()]
 
     def cone_names(self):
         """The ascending tuple of the names of the isles of the cone."""
@@ -37,10 +37,23 @@ class Scope:
         names = self.of_plan.names_in(self.whole_bit)
         return names[0] if names else None
 
-    def look_at(self, name):
+    def whole_looks(self):
+        """Looks at the isles of the cone by which everything is read of each."""
+        return [Look(look.of_isle, (True, True, True, True), whole=True, awake=look.awake) for look in self.looks]
+
+    def _look_at(self, name):
         """How the question looks at an isle of the cone."""
         plan = self.of_plan
         bit = plan.bits[name]
         whole = bit == self.whole_bit
-        read = [whole or mask & bit > 0 for mask in self.read_bits]
-        return Look(plan.isle_row[plan.index_of[name]], read, whole=whole, awake=plan.sleepless_mask & bit > 0)
+        read_flags = tuple([whole or mask & bit > 0 for mask in self.read_bits])
+        return Look(plan.isle_row[plan.index_of[name]], read_flags, whole=whole, awake=plan.sleepless_mask & bit > 0)
+
+
+def scope_of(chip, question):
+    """The scope of a question of the chip. Raises NoQuestion for any other value."""
+    check_question(chip, question)
+    scopes = chip.plan().scopes
+    if question not in scopes:
+        scopes[question] = Scope(chip, question)
+    return scopes[question]

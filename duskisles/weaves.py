@@ -54,25 +54,25 @@ class Weave:
             if not is_event(self._chip, event):
                 raise InvalidEvent(index)
         plan = self._chip.plan()
-        done, states, first = self._now
-        fresh = [states[-1]]
+        done, rows, first = self._now
+        fresh = [rows[-1]]
         for index, event in enumerate(events):
             if not can_come(plan, fresh[-1][0], event):
                 raise NotNow(index)
             fresh.append(state_behind(plan, fresh[-1], event))
             if first is None and faults_of(plan, fresh[-1]):
                 first = len(done) + index + 1
-        self._now = ((*done, *events), (*states, *fresh[1:]), first)
+        self._now = ((*done, *events), (*rows, *fresh[1:]), first)
         return fresh[-1]
 
     def undo(self, count=1):
         """Takes back the last events; returns the tuple of them."""
-        done, states, first = self._now
+        done, rows, first = self._now
         if not is_integer(count) or not 1 <= count <= len(done):
             raise NothingToUndo(count)
         left = len(done) - count
         still_bad = first is not None and first <= left
-        self._now = (done[:left], states[:left + 1], first if still_bad else None)
+        self._now = (done[:left], rows[:left + 1], first if still_bad else None)
         return done[left:]
 
     def trial(self):

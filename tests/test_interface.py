@@ -20,6 +20,11 @@ FUNCTIONS = {
     "stands.first_stand": "(chip, question, name)", "stands.group": "(chip, question, name, stand)",
     "stands.next_stands": "(chip, question, name, stand)", "stands.stands": "(chip, question, name)",
     "stands.label": "(chip, question, name, stand)",
+    "faces.face": "(chip, question, name)", "faces.fits": "(chip, question, isle)",
+    "tables.first_row": "(chip, question)", "tables.next_rows": "(chip, question, row)", "tables.is_bad": "(chip, question, row)",
+    "tables.rows_by_steps": "(chip, question)", "tables.least_table": "(chip, question, *, most=20000)",
+    "judge.judged": "(chip, question, *, most=20000)", "shortest.shortest": "(chip, question, *, most=20000)",
+    "shortest.whole_run": "(chip, question, events)", "runcheck.lets_run": "(chip, question, thing)",
 }
 HANDED = {"handed": "(self, mark, *, dark, dusty, shut, held)", "propped": "(self, *, on=False, line=())"}
 MACHINE = {"registers": "(self, name)", "taken": "(self, name)", "do": "(self, *events)"}

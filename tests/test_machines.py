@@ -251,8 +251,11 @@ class StepsTest(unittest.TestCase):
                     if kind == "shadow":
                         self.assertTrue(name in slow.dark(slow.state) and 0 <= index < chip[name].kept)
                     if kind in ("held", "wire"):
-                        self.assertIn(name, chip.wires)
                         self.assertLess(index, slow.sizes[chip.wire(name).driver])
+                        stations = [each for each in chip.wire(name).stations if slow.spoilt(each)]
+                        if kind == "held":
+                            stations = [each for each in stations if isinstance(each, Holding) and slow.is_shut(slow.state, each.owner)]
+                        self.assertTrue(stations)
 
 
 class LogicTest(unittest.TestCase):

@@ -1,0 +1,21 @@
+"""Runs that are shown to somebody who does not trust them."""
+
+from duskisles.moves import can_come, first_state, is_event, state_behind
+from duskisles.questions import check_question, faults_of, is_moment_of
+
+
+def lets_run(chip, question, thing):
+    """Whether any value is a list of events that can be done, at whose end for the first time a question, any value,
+    is bad."""
+    check_question(chip, question)
+    if not isinstance(thing, list):
+        return False
+    plan = chip.plan()
+    state = first_state(plan)
+    bad = False
+    for event in thing:
+        if bad or not is_event(chip, event) or not can_come(plan, state[0], event):
+            return False
+        state = state_behind(plan, state, event)
+        bad = any([is_moment_of(question, moment) for moment in faults_of(plan, state)])
+    return bad

@@ -1,0 +1,30 @@
+"""Shortest runs: the fewest events behind which a question is bad, and what the rest of the chip does ahead of them."""
+
+from duskisles.grids import events_up_to, rows_that_come, whole_grid_of
+from duskisles.links import needing
+from duskisles.needs import Sleepers
+from duskisles.scopes import scope_of
+
+
+def shortest(chip, question, *, most=20000):
+    """The fewest events of isles of the cone behind which a question, any value, is bad, or None if it is safe."""
+    grid = whole_grid_of(chip, question)
+    ahead, bad = rows_that_come(grid, most)
+    return None if bad is None else events_up_to(grid, ahead, bad)
+
+
+def whole_run(chip, question, events):
+    """The events of the chip: ahead of these the sleep of isles outside the cone that keep up those that leave up."""
+    names = scope_of(chip, question).cone_names()
+    # All are up at first, so whoever does a deed leaves up.
+    leaving = [name for name in names if ("deed", name) in events]
+    links = needing(chip)
+    outside = []
+    ahead = [other for name in leaving for other in links[name] if other not in names]
+    while ahead:
+        name = ahead.pop()
+        if name not in outside:
+            outside.append(name)
+            ahead.extend(links[name])
+    deeds = Sleepers.of(chip, outside).deeds()
+    return [*deeds, *events]

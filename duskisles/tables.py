@@ -1,0 +1,43 @@
+"""Tables: the rows of a question, and which of them come."""
+
+from duskisles.errors import NotSafe
+from duskisles.grids import grid_of
+from duskisles.judge import judged
+
+
+def first_row(chip, question):
+    """The row of the beginning of a question, any value."""
+    return grid_of(chip, question).first_row_of()
+
+
+def next_rows(chip, question, row):
+    """The ascending tuple of the next rows of a row of a question, any value."""
+    return tuple(sorted(set(grid_of(chip, question).rows_behind(row))))
+
+
+def is_bad(chip, question, row):
+    """Whether a question, any value, is bad in a row."""
+    return grid_of(chip, question).is_bad_in(row)
+
+
+def rows_by_steps(chip, question):
+    """Yields the rows of a question, any value, that come: those by fewer steps first, ascending among equals."""
+    grid = grid_of(chip, question)
+    level = [grid.first_row_of()]
+    met = {level[0]: True}
+    while level:
+        yield from level
+        fresh = []
+        for row in level:
+            if not grid.is_bad_in(row):
+                fresh.extend([other for other in grid.rows_behind(row) if other not in met])
+        level = sorted(set(fresh))
+        met.update({row: True for row in level})
+
+
+def least_table(chip, question, *, most=20000):
+    """The ascending tuple of all rows of a question, any value, that come, if it is safe."""
+    word, found = judged(chip, question, most=most)
+    if word == "bad":
+        raise NotSafe(question, found)
+    return found
