@@ -150,4 +150,4 @@ def events_up_to(grid, ahead, row):
     while ahead[row] is not None:
         runs.append(grid.events_between(ahead[row], row))
         row = ahead[row]
-    return [event for run in reversed(runs) for event in run]
+    return [event for run in runs[::-1] for event in run]

@@ -11,7 +11,7 @@ class Look:
     """How much is read of an isle: `read_flags` has True or False for the phase and each of the three flags. `whole`
     isles have no silent events, `awake` ones no events at all."""
 
-    def __init__(self, isle, read_flags, *, whole=False, awake=False):
+    def __init__(self, isle, read_flags, *, whole, awake):
         self.of_isle = isle
         self.read_flags = read_flags
         self.whole = whole

@@ -153,6 +153,9 @@ class LanguageTest(unittest.TestCase):
                     self.assertTrue(isinstance(node.comparators[0], ast.Constant), where)
                 if isinstance(node, ast.Call) and isinstance(node.func, ast.Name) and node.func.id in LISTS_ONLY:
                     self.assertNotIsInstance(node.args[0], ast.GeneratorExp, where)
+                if isinstance(node, ast.Call) and isinstance(node.func, ast.Name) and node.func.id == "reversed":
+                    # Chips have __getitem__, so it must be plain that what is reversed is no chip.
+                    self.assertIn(getattr(getattr(node.args[0], "func", None), "id", ""), ("list", "tuple", "sorted", "range"), where)
                 if isinstance(node, (ast.FunctionDef, ast.ClassDef)):
                     self.assertTrue(all(self.known(each) for each in node.decorator_list), where)
 
