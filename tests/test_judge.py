@@ -1,5 +1,6 @@
 """[14] to [18], duskisles/judge.py and duskisles/shortest.py: safe questions, and runs at whose end they are bad."""
 
+import itertools
 import random
 import unittest
 
@@ -13,7 +14,7 @@ from duskisles.machines import parted
 from duskisles.needs import Sleepers
 from duskisles.runcheck import lets_run
 from duskisles.shortest import shortest, whole_run
-from duskisles.stations import Clamp, Pass
+from duskisles.stations import Clamp, Holding, Pass
 from duskisles.tables import least_table, rows_by_steps
 from duskisles.wires import Wire
 from made import made_chip
@@ -94,7 +95,41 @@ def shortest_by_search(chip, question):
     return found, len(met)
 
 
+def rows_of(words):
+    """All rows of some of these words, in any order."""
+    return [row for count in range(1, len(words) + 1) for row in itertools.permutations(words, count)]
+
+
+def chips_of_one_isle():
+    """All chips of one isle with such rows and a wire to the shore."""
+    for sleep, wake in itertools.product(rows_of(("still", "save", "dark")), rows_of(("lit", "back", "go"))):
+        yield Chip(Isle("a", plain=0, sleep=sleep, wake=wake), wires=(Wire("x", "a", "shore"),))
+
+
+def chips_with_a_station():
+    """All chips of an isle with its words in any order, whose wire to the shore has a station that b can make dusty."""
+    stations = [Pass("b"), Clamp("b", "a"), Holding("shore", "a", line=("b",)), Clamp("shore", "a")]
+    rows = itertools.product(itertools.permutations(("still", "shut", "dark")), itertools.permutations(("lit", "open", "go")))
+    for (sleep, wake), station in itertools.product(rows, stations):
+        yield Chip(Isle("a", kept=0, sleep=sleep, wake=wake), Isle("b", kept=0, **SMALL), wires=(Wire("x", "a", "shore", station),))
+
+
 class JudgedTest(unittest.TestCase):
+
+    def test_all_chips_of_a_kind_against_a_search_through_all_states(self):
+        answers = {"safe": 0, "bad": 0}
+        for chip in [*chips_of_one_isle(), *chips_with_a_station()]:
+            states = oracle.every_state(chip)
+            for question in (A, X):
+                bad = any(oracle.is_bad(chip, state, question) for state in states)
+                answer, found = judged(chip, question), shortest(chip, question)
+                answers[answer[0]] += 1
+                self.assertEqual((answer[0], found is not None), ("bad" if bad else "safe", bad))
+                if bad:
+                    self.assertEqual(first_bad(chip, question, answer[1]), len(answer[1]))
+                    self.assertEqual(len(found), shortest_by_search(chip, question)[0])
+                    self.assertEqual(first_bad(chip, question, found), len(found))
+        self.assertTrue(min(answers.values()) > 50, answers)
 
     def test_safe(self):
         chip = Chip(Isle("a"), Isle("b"), wires=(Wire("x", "a", "b", Clamp("b", "a")),))
