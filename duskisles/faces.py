@@ -9,7 +9,7 @@ def face(chip, question, name):
     if full(chip, question) == name:
         raise NoIsle(name)
     look = look_of(chip, question, name)
-    stands = look.every()
+    stands = look.every_stand()
     labels = {stand: look.label_of(stand) for stand in stands}
     onward = {stand: sorted(look.onward(stand), key=lambda other: labels[other]) for stand in stands}
     kinds = _kinds(stands, labels, onward)

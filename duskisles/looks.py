@@ -48,7 +48,7 @@ class Look:
         """The ascending tuple of the next stands."""
         return tuple([other for other, _ in self.steps_from(stand)])
 
-    def every(self):
+    def every_stand(self):
         """The list of all stands: the first one, and behind each those of its next ones that were not told yet."""
         met = [self.first_stand_of()]
         told = 0

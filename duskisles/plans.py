@@ -9,8 +9,8 @@ class Plan:
     def __init__(self, isles, wires):
         self.isle_row = tuple(isles)
         self.index_of = {isle.name: index for index, isle in enumerate(isles)}
-        self.bits = {isle.name: 1 << index for index, isle in enumerate(isles)}
-        self.bits["shore"] = 0
+        bits = {isle.name: 1 << index for index, isle in enumerate(isles)}
+        self.bits = {**bits, "shore": 0}
         self.leash_masks = [mask_of(isle.leash, self.bits) for isle in isles]
         self.under_masks = [mask | 1 << index for index, mask in enumerate(_onward(self.leash_masks))]
         self.need_masks = [mask_of(isle.needs, self.bits) for isle in isles]

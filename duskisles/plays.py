@@ -12,10 +12,10 @@ class Setting:
         self.of_chip = chip
         self.logic = logic
         self.dust = dust
-        self.kept_sizes = {name: chip[name].kept for name in chip.names}
-        self.kept_sizes["shore"] = 0
-        sizes = {name: chip[name].size for name in chip.names}
-        sizes["shore"] = chip.shore
+        kept_sizes = {name: chip[name].kept for name in chip.names}
+        self.kept_sizes = {**kept_sizes, "shore": 0}
+        isle_sizes = {name: chip[name].size for name in chip.names}
+        sizes = {**isle_sizes, "shore": chip.shore}
         given = {} if start is None else start
         self.begins = {name: given.get(name, (0,) * sizes[name]) for name in sizes}
 

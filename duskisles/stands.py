@@ -20,7 +20,7 @@ def next_stands(chip, question, name, stand):
 
 def stands(chip, question, name):
     """Yields the first stand and all next stands, each once."""
-    rows = look_of(chip, question, name).every()
+    rows = look_of(chip, question, name).every_stand()
     yield from rows
 
 
