@@ -1,6 +1,8 @@
 """Grids: the rows of a question, and which come behind which."""
 
+from duskisles.crews import Crew
 from duskisles.errors import TooMany
+from duskisles.forms import is_ascending
 from duskisles.moves import FIRST_MARKS, marks_behind
 from duskisles.questions import isle_faults
 from duskisles.scopes import scope_of
@@ -13,13 +15,10 @@ class Grid:
     def __init__(self, scope, looks):
         plan = scope.of_plan
         self.of_plan = plan
-        self.looks = looks
+        self.crew = Crew(looks)
         self.track = scope.track
-        self.bit_row = [plan.bits[look.of_isle.name] for look in looks]
-        names = [look.of_isle.name for look in looks]
-        self.need_rows = [[names.index(name) for name in look.of_isle.needs] for look in looks]
-        self.needing_rows = [[other for other, row in enumerate(self.need_rows) if at in row]
-                             for at, _ in enumerate(looks)]
+        names = self.crew.isle_names
+        self.bit_row = [plan.bits[name] for name in names]
         whole = scope.whole_name()
         self.whole_at = None if whole is None else names.index(whole)
         reader = None if self.track is None else self.track.to_place
@@ -28,16 +27,12 @@ class Grid:
     def first_row_of(self):
         """The row of the beginning."""
         held = () if self.track is None else ("open",) * self.track.holders
-        return (tuple([look.first_stand_of() for look in self.looks]), () if self.whole_at is None else FIRST_MARKS,
-                held)
+        return (self.crew.first_stands(), () if self.whole_at is None else FIRST_MARKS, held)
 
     def rows_behind(self, row):
         """The list of the next rows of a row."""
         stands = row[0]
-        rows = []
-        for at, look in enumerate(self.looks):
-            if self._lets(stands, at):
-                rows.extend([self._behind(row, at, other, word) for other, word in look.steps_from(stands[at])])
+        rows = [self._behind(row, at, other, word) for at, other, word in self.crew.moves_from(stands)]
         if self.whole_at is not None and stands[self.whole_at][2]:
             rows.append(self._behind(row, self.whole_at, stands[self.whole_at], "tick"))
         return rows
@@ -56,19 +51,8 @@ class Grid:
 
     def events_between(self, row, other):
         """The list of events that lead from a row to a next one: silent ones, and at its end one that is not."""
-        for look, stand, behind in zip(self.looks, row[0], other[0]):
-            if stand != behind:
-                return look.events_to(stand, behind)
-        return [("tick", self.looks[self.whole_at].of_isle.name)]
-
-    def _lets(self, stands, at):
-        """Whether the isle with this index in the cone may go on as far as the needs within the cone go."""
-        phase = stands[at][0]
-        if phase == "up":
-            return all([stands[other][0] == "asleep" for other in self.needing_rows[at]])
-        if phase == "asleep":
-            return all([stands[other][0] == "up" for other in self.need_rows[at]])
-        return True
+        events = self.crew.events_between(row[0], other[0])
+        return events if events else [("tick", self.crew.isle_names[self.whole_at])]
 
     def _masks(self, stands):
         """The isles that are away and those that are shut, as far as this is read."""
@@ -98,7 +82,7 @@ class Grid:
         bit = self.bit_row[self.whole_at]
         if word is None and not dark & bit:
             return marks
-        isle = self.looks[self.whole_at].of_isle
+        isle = self.crew.looks[self.whole_at].of_isle
         leash = self.of_plan.leash_masks[self.of_plan.index_of[isle.name]]
         return marks_behind(isle, marks, word, dark & bit, dark & leash)
 
@@ -142,6 +126,18 @@ def rows_that_come(grid, most):
                             raise TooMany(most)
         level = fresh
     return ahead, bad
+
+
+def shows_safe(grid, rows):
+    """Whether these rows, a tuple, are ascending, have the first row and with each row all next rows, and none of them
+    is bad."""
+    known = {row: True for row in rows}
+    if not is_ascending(rows) or grid.first_row_of() not in known:
+        return False
+    for row in rows:
+        if grid.is_bad_in(row) or not all([other in known for other in grid.rows_behind(row)]):
+            return False
+    return True
 
 
 def events_up_to(grid, ahead, row):

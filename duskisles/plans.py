@@ -20,6 +20,7 @@ class Plan:
         self.needed_masks = _onward(self.need_masks)
         self.sleepless_mask = _sleepless(isles, self.needed_masks)
         self.tracks = _tracks(wires, self.bits)
+        self.holding_row = [stop[0] for track in self.tracks for stop in track.stops if stop[4]]
         # Scopes of questions that were asked already, by question.
         self.scopes = {}
 
