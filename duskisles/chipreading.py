@@ -39,20 +39,25 @@ CHOICES = {
 
 
 def read_parts(text):
-    """(isles, wires, shore) of the text of a chip, two lists and a number; raises InvalidText, and what a wrong
-    isle, station or wire raises."""
-    groups = _groups(text)
+    """(isles, wires, shore) of the text of a chip, any value; raises InvalidText, and what a wrong isle, station or
+    wire raises."""
+    if not isinstance(text, str):
+        raise InvalidText(0, 0)
+    return parts_of(text.split("\n"))
+
+
+def parts_of(lines):
+    """(isles, wires, shore), two lists and a number, of the lines of a chip; raises as `read_parts`."""
+    groups = _groups(lines)
     isles = [_isle(group) for group in groups if group[0][0] == "isle"]
     wires = [_wire(group) for group in groups if group[0][0] == "wire"]
     return isles, wires, int(groups[0][0][1])
 
 
-def _groups(text):
+def _groups(lines):
     """The lines, as lists of words, in groups: the one of the shore, then those of each isle and each wire."""
-    if not isinstance(text, str):
-        raise InvalidText(0, 0)
     groups = []
-    for row, line in enumerate(text.split("\n")):
+    for row, line in enumerate(lines):
         words = line.split(" ")
         wrong = _wrong_word(words, groups)
         if wrong is not None:

@@ -15,7 +15,11 @@ def shortest(chip, question, *, most=20000):
 
 def whole_run(chip, question, events):
     """The events of the chip: ahead of these the sleep of isles outside the cone that keep up those that leave up."""
-    names = scope_of(chip, question).cone_names()
+    return run_with_sleep(chip, scope_of(chip, question).cone_names(), events)
+
+
+def run_with_sleep(chip, names, events):
+    """The list of these events of isles with these names, ahead of it the sleep of others that keep them up."""
     # All are up at first, so whoever does a deed leaves up.
     leaving = [name for name in names if ("deed", name) in events]
     links = needing(chip)

@@ -1,4 +1,5 @@
-"""Points [7], [15], [16] and [18] told a second time, plainly and slowly: cones, what is read, stands, groups, labels."""
+"""Points [7], [15], [16] and [18] told a second time, plainly and slowly: cones, what is read, stands, groups, labels. A question may
+also be ("hearing", wire), which stands for the hearing cone of a wire."""
 
 from oracle import SET
 
@@ -23,6 +24,8 @@ def sleepless(chip):
 
 def powered(chip, question):
     """The isles that a question has by places, lines and leashes, the isle or driver among them."""
+    if question[0] == "hearing":
+        return set()
     if question[0] == "isle":
         starts = [question[1]]
     else:
@@ -32,10 +35,13 @@ def powered(chip, question):
 
 
 def owners(chip, question):
-    return {station.owner for station in chip.wire(question[1]).stations if station.owner} if question[0] == "wire" else set()
+    return {station.owner for station in chip.wire(question[1]).stations if station.owner} if question[0] != "isle" else set()
 
 
 def reader(chip, question):
+    """The reader of a wire; for hearing, both ends."""
+    if question[0] == "hearing":
+        return {chip.wire(question[1]).driver, chip.wire(question[1]).reader} - {"shore"}
     return {chip.wire(question[1]).reader} - {"shore"} if question[0] == "wire" else set()
 
 
@@ -45,6 +51,8 @@ def cone(chip, question):
 
 
 def full(chip, question):
+    if question[0] == "hearing":
+        return None
     name = question[1] if question[0] == "isle" else chip.wire(question[1]).driver
     return None if name == "shore" else name
 

@@ -237,6 +237,56 @@ def is_heard(chip, state, name):
     return not (ticking and any(isles[owner]["shut"] for owner in owners))
 
 
+def hearing_first(chip, name):
+    return tuple(cones.first_stand(chip, ("hearing", name), isle) for isle in cones.cone(chip, ("hearing", name)))
+
+
+def hearing_next(chip, name, row):
+    question, found = ("hearing", name), set()
+    names = cones.cone(chip, question)
+    for isle, stand in zip(names, row):
+        if tables.lets(chip, question, (row,), isle):
+            found |= {tuple(other if each == isle else old for each, old in zip(names, row))
+                      for other in cones.next_stands(chip, question, isle, stand)}
+    return sorted(found)
+
+
+def is_heard_in(chip, name, row):
+    stands, wire = dict(zip(cones.cone(chip, ("hearing", name)), row)), chip.wire(name)
+    ticking = all(end == "shore" or stands[end][2] for end in (wire.driver, wire.reader))
+    return not (ticking and any(stands[owner][3] for owner in cones.owners(chip, ("hearing", name))))
+
+
+def hearing_rows(chip, name):
+    """All hearing rows that come."""
+    found, ahead = set(), [hearing_first(chip, name)]
+    while ahead:
+        row = ahead.pop()
+        if row not in found:
+            found.add(row)
+            ahead += hearing_next(chip, name, row) if is_heard_in(chip, name, row) else []
+    return found
+
+
+def is_hearing(chip, name, thing):
+    if not is_tuple(thing, 2):
+        return False
+    if same(thing[0], "not"):
+        states = states_of(chip, thing[1]) if type(thing[1]) is list else None
+        return states is not None and not is_heard(chip, states[-1], name)
+    if not same(thing[0], "always") or type(thing[1]) is not tuple:
+        return False
+    names = cones.cone(chip, ("hearing", name))
+    stands = [cones.stands(chip, ("hearing", name), isle) for isle in names]
+    for row in thing[1]:
+        if not is_tuple(row, len(names)) or not all(is_one_of(stand, known) for stand, known in zip(row, stands)):
+            return False
+    rows = set(thing[1])
+    if not ascends(thing[1]) or hearing_first(chip, name) not in rows:
+        return False
+    return all(is_heard_in(chip, name, row) and rows.issuperset(hearing_next(chip, name, row)) for row in thing[1])
+
+
 def every_state_form(chip):
     """All states of a chip, whether they come or not. (There are many.)"""
     rows = []

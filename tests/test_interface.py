@@ -25,6 +25,16 @@ FUNCTIONS = {
     "tables.rows_by_steps": "(chip, question)", "tables.least_table": "(chip, question, *, most=20000)",
     "judge.judged": "(chip, question, *, most=20000)", "shortest.shortest": "(chip, question, *, most=20000)",
     "shortest.whole_run": "(chip, question, events)", "runcheck.lets_run": "(chip, question, thing)",
+    "tablecheck.lets_table": "(chip, question, thing)",
+    "verdict.verdict": "(chip, *, most=20000)", "verdict.lets_verdict": "(chip, thing)", "verdict.is_safe": "(chip, *, most=20000)",
+    "orders.ordered": "(chip, name, order)", "orders.lets_orders": "(chip, name, thing)",
+    "spots.spots": "(chip)", "spots.propped": "(chip, *spots)",
+    "mends.mends": "(chip, *spots)", "mends.mending": "(chip)", "mends.clauses": "(chip)", "mends.fewest": "(chip)",
+    "mends.mend_paper": "(chip)", "mends.lets_mends": "(chip, thing)",
+    "rests.rested": "(chip, *names)", "rests.may_sleep": "(chip, *names)", "rests.sleepers": "(chip, *first)", "rests.greatest": "(chip)",
+    "hearing.is_heard": "(chip, state, name)", "hearing.hearing": "(chip, name, *, most=20000)", "hearing.lets_hearing": "(chip, name, thing)",
+    "conductor.lets_guide": "(chip, thing)", "conductor.lets_refusal": "(chip, state, thing)",
+    "texts.write_chip": "(chip)", "texts.read_chip": "(text)", "texts.write_events": "(events)", "texts.read_events": "(text)",
 }
 HANDED = {"handed": "(self, mark, *, dark, dusty, shut, held)", "propped": "(self, *, on=False, line=())"}
 MACHINE = {"registers": "(self, name)", "taken": "(self, name)", "do": "(self, *events)"}
@@ -57,6 +67,15 @@ CLASSES = {
     "machines.Machine": MACHINE,
     "machines.Still": {"__init__": "(self, chip, logic=None, *, start=None)", **MACHINE},
     "machines.Dusk": {"__init__": "(self, chip, logic=None, *, start=None, dust=None)", "shadow": "(self, name)", **MACHINE},
+    "orders.Orders": {"__init__": "(self, chip, name)", "__len__": "(self)", "__contains__": "(self, order)", "every_safe": "(self)",
+                      "run": "(self, pair)", "reason": "(self)", "paper": "(self)"},
+    "conductor.Conductor": {"__init__": "(self, chip, *, most=20000)", "__len__": "(self)", "__contains__": "(self, value)",
+                            "allowed": "(self, state)", "move": "(self, value)", "do": "(self, *events)", "guide": "(self)", "home": "(self)",
+                            "refusal": "(self, state)", "trial": "(self)", "on_trial": "(self, work)"},
+    "book.Book": {"__init__": "(self, chip)", "change": "(self, work)", "rest": "(self, *names)", "rouse": "(self, *names)",
+                  "undo": "(self, count=1)", "redo": "(self, count=1)", "trial": "(self)", "on_trial": "(self, work)", "__len__": "(self)",
+                  "__eq__": "(self, other)"},
+    "desk.Desk": {"__init__": "(self)", "say": "(self, line)", "say_all": "(self, *lines)"},
 }
 PROPERTIES = {
     "isles.Isle": "name kept plain leash needs sleeps sleep wake turns size", "stations.Station": "on owner gives line",
@@ -64,8 +83,12 @@ PROPERTIES = {
     "wires.Wire": "name driver reader stations", "chips.Chip": "names wires shore questions", "needs.Sleepers": "chip names",
     "keepers.Keeper": "isle post flags own", "weaves.Weave": "chip events state moments first",
     "machines.Machine": "chip moment state ticking", "machines.Still": "chip moment state ticking",
-    "machines.Dusk": "chip moment state ticking",
+    "machines.Dusk": "chip moment state ticking", "orders.Orders": "candidates pairs", "conductor.Conductor": "present",
+    "book.Book": "present", "desk.Desk": "chip",
 }
+ASSIGNED = [("keepers.Keeper", "own"), ("conductor.Conductor", "present"), ("book.Book", "present")]
+GENERATORS = {"dark": ["dusty_leads"], "marks": ["events_from"], "stands": ["stands"], "tables": ["rows_by_steps"], "rests": ["greatest"],
+              "weaves.Weave": ["states"], "orders.Orders": ["every_safe"], "conductor.Conductor": ["allowed"], "desk.Desk": ["say_all"]}
 
 
 def thing_of(name):
@@ -89,7 +112,17 @@ class InterfaceTest(unittest.TestCase):
         for name, properties in PROPERTIES.items():
             for each in properties.split():
                 self.assertIsInstance(vars(thing_of(name)).get(each), property, (name, each))
-                self.assertEqual(vars(thing_of(name))[each].fset is None, each != "own", (name, each))
+                self.assertEqual(vars(thing_of(name))[each].fset is not None, (name, each) in ASSIGNED, (name, each))
+
+    def test_generators(self):
+        for name, generators in GENERATORS.items():
+            for each in generators:
+                self.assertTrue(inspect.isgeneratorfunction(getattr(thing_of(name), each) if "." in name else thing_of(f"{name}.{each}")), each)
+
+    def test_class_values(self):
+        self.assertEqual((thing_of("conductor.Conductor").MOST, thing_of("book.Book").MOST), (20000, 50))
+        self.assertEqual((thing_of("isles.Isle").SLEEP, thing_of("isles.Isle").WAKE),
+                         (("still", "shut", "save", "dark"), ("lit", "reset", "back", "open", "go")))
 
     def test_everything_is_defined_in_its_own_file(self):
         for name in [*FUNCTIONS, *CLASSES]:
