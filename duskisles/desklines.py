@@ -40,9 +40,9 @@ def read_line(line):
     if command not in FORMS:
         raise UnknownCommand()
     kinds, more = FORMS[command]
-    if more is not None and words:
-        kinds = (more,) * len(words)
-    if len(words) != len(kinds) or (more is not None and not words):
+    if more is not None:
+        kinds = (more,) * max(1, len(words))
+    if len(words) != len(kinds):
         raise UnknownCommand()
     values = [_value_of(kind, word) for kind, word in zip(kinds, words)]
     if None in values:

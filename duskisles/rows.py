@@ -51,17 +51,13 @@ def follows(pair, pairs):
 
 def orders_with(isle, kept, broken):
     """The ascending list of the orders of an isle that keep the one pairs and break the others."""
-    rows = []
-    for words in (isle.sleep, isle.wake):
-        # A pair has both words in one row.
-        ahead = [pair for pair in kept if pair[0] in words]
-        behind = [(second, first) for first, second in broken if first in words]
-        rows.append(_arranged(words, [*ahead, *behind]))
-    return [(sleep, wake) for sleep in rows[0] for wake in rows[1]]
+    pairs = [*kept, *[(second, first) for first, second in broken]]
+    wakes = _arranged(isle.wake, pairs)
+    return [(sleep, wake) for sleep in _arranged(isle.sleep, pairs) for wake in wakes]
 
 
 def _arranged(words, pairs):
-    """The ascending list of the tuples of these words, each once, that keep these pairs."""
+    """The ascending list of the tuples of these words, each once, that keep these pairs as far as they have them."""
     if len(words) == 0:
         return [()]
     rows = []

@@ -74,7 +74,7 @@ class LetTest(unittest.TestCase):
         wrong = ANY + [((a, b),), (a, b), ((a,), held), ((a, b, b), held), [(a, b), held], ([a, b], held), ((list(a), b), held), ((a, b), []), ((a, b), None),
                        (((a[0], False, *a[2:]), b), held), (((*a[:2], 1, *a[3:]), b), held), (((*a[:3], 0, *a[4:]), b), held), (((*a[:4], 0, *a[5:]), b), held),
                        (((*a[:7], "older"), b), held), (((*a[:6], "dust", "same"), b), held), ((("falling", 2, *a[2:]), b), held), ((a, b), ("open",)),
-                       ((("asleep", 0, *a[2:]), b), held), (((*a, "same"), b), held), ((a[:7], b), held), ((a, None), held)]
+                       ((("asleep", 0, *a[2:]), b), held), ((("falling", -1, *a[2:]), b), held), ((("gone", 0, *a[2:]), b), held), (((*a, "same"), b), held), ((a[:7], b), held), ((a, None), held)]
         for value in wrong:
             self.assertIs(value in conductor, False)
             for work in (lambda value: list(conductor.allowed(value)), conductor.move, conductor.refusal, lambda value: setattr(conductor, "present", value)):
@@ -345,7 +345,8 @@ class RefusalTest(unittest.TestCase):
                 self.assertIs(told is None, state in good)
                 if told is not None:
                     self.assertIs(lets_refusal(chip, state, told), True)
-                    self.assertTrue(oraclepapers.is_refusal(chip, state, told))
+                    if dice.random() < 0.2:
+                        self.assertTrue(oraclepapers.is_refusal(chip, state, told))
                     self.assertEqual((Conductor(chip).refusal(state) if dice.random() < 0.02 else told), told)
                     self.assertFalse(good & {each for row in told for each in row})
                     kinds[len(told)] = kinds.get(len(told), 0) + 1
@@ -364,6 +365,40 @@ class RefusalTest(unittest.TestCase):
         self.assertEqual((told[:-1], told[-1]), (rounds, (saved,)))
         # Let are up with either shadow, and asleep and waking if it was saved without a tick behind it.
         self.assertEqual((list(conductor.allowed(state)), len(conductor)), ([], 4))
+
+    def test_a_tick_that_is_not_the_first_one(self):
+        # The ticks of a and of the shore lead nowhere; that of b does.
+        chip = Chip(Isle("a", kept=0, sleeps=False), Isle("b", plain=0, sleep=("save", "still"), wake=("back", "go")))
+        state = Weave.of(chip, [("deed", "b")]).state
+        told = Conductor(chip).refusal(state)
+        self.assertEqual(told[-1], (state,))
+        self.assertIs(lets_refusal(chip, state, told), True)
+
+    def test_states_in_which_all_are_up_are_not_stuck(self):
+        for chip in (Chip(Isle("a", kept=0, sleeps=False)), CHIP):
+            every = tuple(sorted(oracle.every_state(chip)))
+            self.assertIs(lets_refusal(chip, begin(chip), [(begin(chip),)]), False)
+            self.assertIs(lets_refusal(chip, begin(chip), [every]), False)
+        lost = Chip(Isle("a", kept=0, sleep=("still",), wake=("go",)), Isle("b", kept=0, sleeps=False, needs=("a",)))
+        asleep = ((("asleep", 0, False, False, False, "clean", "clean", "same"), begin(lost)[0][1]), ())
+        self.assertIs(lets_refusal(lost, asleep, [(asleep,)]), False)
+        # Nobody who is asleep can wake where each needs the other one.
+        ring = Chip(Isle("a", kept=0, needs=("b",)), Isle("b", kept=0, needs=("a",)))
+        both = ((("asleep", 0, False, False, False, "clean", "clean", "same"),) * 2, ())
+        self.assertIs(lets_refusal(ring, both, [(both,)]), True)
+
+    def test_forms_of_states(self):
+        # Where nothing else is asked of a state than its form: it is dark with its clock on.
+        chip = Chip(Isle("a", sleep=("dark", "still"), wake=("lit", "reset", "go")))
+        def lets(*row):
+            state = ((row,), ())
+            return lets_refusal(chip, state, [(state,)])
+        rest = (True, False, True, "clean", "clean", "same")
+        for phase, counts in (("up", [0]), ("asleep", [0]), ("falling", [0, 1]), ("waking", [0, 1, 2]), ("gone", [])):
+            for count in (-1, 0, 1, 2, 3, 4):
+                self.assertIs(lets(phase, count, *rest), count in counts)
+            for count in (False, True, None, "0", (0,)):
+                self.assertIs(lets(phase, count, *rest), False)
 
     def test_other_rounds_that_are_right(self):
         for dice, chip, states, good in small_states(range(60)):

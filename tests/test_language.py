@@ -86,7 +86,8 @@ class LanguageTest(unittest.TestCase):
 
     def test_imports(self):
         above = {}
-        for name, _, tree in files():
+        trees = {name: tree for name, _, tree in files()}
+        for name, tree in trees.items():
             above[name[:-3]] = []
             for node in ast.walk(tree):
                 self.assertNotIsInstance(node, ast.Import, name)
@@ -98,12 +99,11 @@ class LanguageTest(unittest.TestCase):
                         continue
                     self.assertRegex(node.module, r"^duskisles\.\w+$", name)
                     above[name[:-3]].append(node.module.split(".")[1])
-                    self.defined(node)
+                    self.defined(node, trees)
         for name in above:
             self.assertNotIn(name, self.reached(above, above[name]), "files that import from each other")
 
-    def defined(self, node):
-        trees = {name: tree for name, _, tree in files()}
+    def defined(self, node, trees):
         for each in node.names:
             body = trees[node.module.split(".")[1] + ".py"].body
             names = [row.name for row in body if isinstance(row, (ast.FunctionDef, ast.ClassDef))]

@@ -267,6 +267,12 @@ class DualsTest(unittest.TestCase):
                 answers[sorted(other) == told] += 1
         self.assertTrue(min(answers.values()) > 50, answers)
 
+    def test_one_set_and_its_things(self):
+        for rows, others, told in (([7], [1, 2, 4], True), ([7], [3, 4], False), ([7], [1, 6], False), ([7], [1, 2], False), ([4], [4], True), ([0], [0], False),
+                                   ([], [], False), ([0], [], True), ([], [0], True), ([], [1], False), ([1], [2], False), ([0], [1], False)):
+            self.assertIs(are_dual(rows, others, 3), told)
+            self.assertIs(are_dual(others, rows, 3), told)
+
     def test_sets_within_others(self):
         for rows, told in (([], True), ([0], True), ([0, 1], False), ([1, 2], True), ([3, 1], False), ([5, 5], False), ([5, 6, 3], True)):
             self.assertIs(within_none(rows), told)
