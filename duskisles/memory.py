@@ -10,31 +10,34 @@ class Memory:
     """Answers to questions. A question is judged once for all chips in which its cone and its wire are the same."""
 
     def __init__(self):
+        self.found_answers = {}
+        # Tables are large, so only those are kept that were asked for.
         self.found_tables = {}
 
-    def table_of(self, chip, question):
-        """The least table of a question, or None if it is bad."""
-        sign = _sign(chip, question)
-        if sign not in self.found_tables:
-            word, found = judged(chip, question)
-            self.found_tables[sign] = found if word == "safe" else None
-        return self.found_tables[sign]
-
     def bad_question(self, chip):
-        """The first question that is bad, or None."""
+        """The first question of a chip that is bad, or None."""
         for question in chip.questions:
-            if self.table_of(chip, question) is None:
+            sign = _sign(chip, question)
+            if sign not in self.found_answers:
+                self.found_answers[sign] = judged(chip, question)[0]
+            if self.found_answers[sign] == "bad":
                 return question
         return None
-
-    def tables_of(self, chip):
-        """The tuple of the pairs (question, least table) of a safe chip."""
-        return tuple([(question, self.table_of(chip, question)) for question in chip.questions])
 
     def harm_of(self, chip):
         """(question, events) with the first question of a chip that is bad, and a run that shows it."""
         question = self.bad_question(chip)
         return (question, judged(chip, question)[1])
+
+    def tables_of(self, chip):
+        """The tuple of the pairs (question, least table) of a safe chip."""
+        rows = []
+        for question in chip.questions:
+            sign = _sign(chip, question)
+            if sign not in self.found_tables:
+                self.found_tables[sign] = judged(chip, question)[1]
+            rows.append((question, self.found_tables[sign]))
+        return tuple(rows)
 
 
 def _sign(chip, question):

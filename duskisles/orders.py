@@ -5,7 +5,7 @@ from duskisles.forms import is_ascending, is_tuple
 from duskisles.memory import Memory
 from duskisles.rows import candidates_of, follows, is_arranged, is_order, keeps, keeps_all, orders_with
 from duskisles.stations import Holding
-from duskisles.verdict import lets_harm, lets_tables
+from duskisles.verdict import lets_harm, lets_tables, verdict
 
 
 def ordered(chip, name, order):
@@ -19,18 +19,16 @@ def ordered(chip, name, order):
 
 
 class Orders:
-    """The safe orders of an isle. It never changes; what was found out is remembered."""
+    """The safe orders of an isle. It never changes."""
 
     def __init__(self, chip, name):
-        isle = _ordered_isle(chip, name)
         self._chip = chip
-        self._isle = isle
-        self._memory = Memory()
-        self._candidates = candidates_of(isle)
-        self._begin = orders_with(isle, self._candidates, ())[0]
-        safe = self._is_safe(self._begin)
-        self._pairs = self._needed_pairs() if safe else ()
-        self._safe = tuple(orders_with(isle, self._pairs, ())) if safe else ()
+        self._isle = _ordered_isle(chip, name)
+        self._candidates = candidates_of(self._isle)
+        self._begin = orders_with(self._isle, self._candidates, ())[0]
+        pairs = _needed_pairs(chip, self._isle, self._begin)
+        self._pairs = () if pairs is None else pairs
+        self._safe = () if pairs is None else tuple(orders_with(self._isle, pairs, ()))
 
     @property
     def candidates(self):
@@ -57,51 +55,30 @@ class Orders:
         if pair not in self._pairs:
             raise NoPair(pair)
         others = [other for other in self._pairs if other != pair]
-        order = orders_with(self._isle, others, (pair,))[0]
-        return (order, *self._memory.harm_of(self._chip_with(order)))
+        return self._harm_with(orders_with(self._isle, others, (pair,))[0])
 
     def reason(self):
         """None, or (order, question, events) with the first order that keeps all candidates, if no order is safe."""
-        if self._safe:
-            return None
-        return (self._begin, *self._memory.harm_of(self._chip_with(self._begin)))
+        return None if self._safe else self._harm_with(self._begin)
 
     def paper(self):
         """What shows somebody who does not trust this which orders are safe."""
         if not self._safe:
-            return ("none", *self.reason())
+            return ("none", *self._harm_with(self._begin))
+        memory = Memory()
         needed = tuple([(pair, *self.run(pair)) for pair in self._pairs])
         free = [(pair, orders_with(self._isle, self._pairs, (pair,))[0])
                 for pair in _free_pairs(self._candidates, self._pairs)]
-        rows = tuple([(pair, order, self._tables_with(order)) for pair, order in free])
-        return ("orders", self._begin, self._tables_with(self._begin), needed, rows)
+        rows = tuple([(pair, order, memory.tables_of(self._chip_with(order))) for pair, order in free])
+        return ("orders", self._begin, memory.tables_of(self._chip_with(self._begin)), needed, rows)
 
     def _chip_with(self, order):
         """The chip with an order of the isle."""
         return _with_order(self._chip, self._isle.name, order)
 
-    def _tables_with(self, order):
-        """The tables of the chip with a safe order of the isle."""
-        return self._memory.tables_of(self._chip_with(order))
-
-    def _is_safe(self, order):
-        """Whether an order is safe."""
-        return self._memory.bad_question(self._chip_with(order)) is None
-
-    def _needed_pairs(self):
-        """The pairs, if an order that keeps all candidates is safe."""
-        left = list(self._candidates)
-        needed = []
-        while True:
-            # Only a pair that does not follow from others can be broken alone.
-            unsure = [pair for pair in left if pair not in needed and not follows(pair, left)]
-            if not unsure:
-                return tuple(sorted(needed))
-            others = [pair for pair in left if pair != unsure[0]]
-            if self._is_safe(orders_with(self._isle, others, (unsure[0],))[0]):
-                left = others
-            else:
-                needed.append(unsure[0])
+    def _harm_with(self, order):
+        """(order, question, events) for an order that is not safe."""
+        return (order, *verdict(self._chip_with(order))[1:])
 
 
 def lets_orders(chip, name, thing):
@@ -127,6 +104,27 @@ def _ordered_isle(chip, name):
             for station in wire.stations]):
         raise HoldsOwn(name)
     return isle
+
+
+def _needed_pairs(chip, isle, begin):
+    """The ascending tuple of the pairs that the safe orders of an isle are those to keep, or None if not even this
+    order is safe, which keeps all candidates."""
+    memory = Memory()
+    if memory.bad_question(_with_order(chip, isle.name, begin)) is not None:
+        return None
+    left = candidates_of(isle)
+    needed = []
+    while True:
+        # Only a pair that does not follow from others can be broken alone.
+        unsure = [pair for pair in left if pair not in needed and not follows(pair, left)]
+        if not unsure:
+            return tuple(sorted(needed))
+        others = [pair for pair in left if pair != unsure[0]]
+        order = orders_with(isle, others, (unsure[0],))[0]
+        if memory.bad_question(_with_order(chip, isle.name, order)) is None:
+            left = others
+        else:
+            needed.append(unsure[0])
 
 
 def _with_order(chip, name, order):
