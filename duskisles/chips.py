@@ -6,7 +6,7 @@ from duskisles.chipwriting import chip_lines
 from duskisles.errors import InvalidChip, InvalidName, NoIsle, NoWire
 from duskisles.isles import Isle
 from duskisles.names import is_name, is_own_name
-from duskisles.plans import Plan
+from duskisles.plans import plan_of
 from duskisles.stations import Clamp, Holding, Pass
 from duskisles.wires import Wire
 
@@ -21,7 +21,7 @@ class Chip:
         self._isles = {isle.name: isle for isle in isles}
         self._wires = {wire.name: wire for wire in wires}
         self._shore = shore
-        self._plan = Plan(self._isle_row(), self._wire_row())
+        self._plan = plan_of(self._isle_row(), self._wire_row())
         self._questions = (*[("isle", name) for name in self._names], *[("wire", name) for name in self._wire_names])
 
     @classmethod

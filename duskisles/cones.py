@@ -25,4 +25,4 @@ def look_of(chip, question, name):
     names = scope.cone_names()
     if name not in names:
         raise NoIsle(name)
-    return scope.looks[names.index(name)]
+    return scope.looks()[names.index(name)]

@@ -20,8 +20,8 @@ def are_dual(rows, others, many):
             return False
         else:
             bit = _often(some, more, many)
-            ahead.append((_without(some, bit), _least([row & ~bit for row in more])))
-            ahead.append((_least([row & ~bit for row in some]), _without(more, bit)))
+            ahead.append((_without(some, bit), least_sets([row & ~bit for row in more])))
+            ahead.append((least_sets([row & ~bit for row in some]), _without(more, bit)))
     return True
 
 
@@ -31,13 +31,22 @@ def within_none(rows):
                     if at != place])
 
 
-def least_covers(rows, many):
-    """The list of the least sets of so many things that have something of each of these sets; goes through all sets."""
-    covers = [mask for mask in range(1 << many) if all([mask & row for row in rows])]
-    return _least(covers)
+def least_covers(rows):
+    """The list of the least sets that have something of each of these sets."""
+    covers = [0]
+    for row in rows:
+        covers = covers_with(covers, row)
+    return covers
 
 
-def _least(rows):
+def covers_with(covers, row):
+    """The least sets that have something of one more set, if these are so for some others."""
+    bits = [1 << index for index in range(row.bit_length()) if row >> index & 1]
+    rows = [[cover] if cover & row else [cover | bit for bit in bits] for cover in covers]
+    return least_sets([cover for some in rows for cover in some])
+
+
+def least_sets(rows):
     """The list of those of these sets that have no other one within them."""
     left = []
     for row in sorted(rows):

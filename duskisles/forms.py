@@ -41,8 +41,8 @@ def is_state(plan, value):
     isles, held = value
     if not all([_is_isle_state(isle, row) for isle, row in zip(plan.isle_row, isles)]):
         return False
-    shut = [isles[plan.index_of[station.owner]][3] for station in plan.holding_row]
-    return are_held(held, shut)
+    shut = sum([1 << index for index, row in enumerate(isles) if row[3]])
+    return are_held(held, [shut & stop[2] > 0 for track in plan.tracks for stop in track.stops if stop[4]])
 
 
 def are_stands(value, known):

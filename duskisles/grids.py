@@ -1,108 +1,153 @@
-"""Grids: the rows of a question, and which come behind which."""
+"""Grids: the rows of a question, and which come behind which.
 
-from duskisles.crews import Crew
+A row is told as a number: that of its crew, that of its marks in 5 bits, and its held marks in 2 bits each. Numbers
+ascend as the rows do."""
+
+from duskisles.crews import SEEN, Crew
 from duskisles.errors import TooMany
 from duskisles.forms import is_ascending
-from duskisles.moves import FIRST_MARKS, marks_behind
-from duskisles.questions import isle_faults
-from duskisles.scopes import scope_of
-from duskisles.tracks import begin_mark
+from duskisles.markrows import DRIVEN, FIRST_MARK, STAYS, mark_number, mark_table, mark_tables, marks_of
+from duskisles.scopes import scope_of, scope_on
+from duskisles.sights import Sight
+from duskisles.tracks import MARK_AT, MARK_WORDS, numbers_behind
 
 
 class Grid:
-    """The rows (stands, marks, held) of a question that looks like this at the isles of its cone."""
+    """The rows (stands, marks, held) of a question that looks like this at isles of its cone."""
 
-    def __init__(self, scope, looks):
-        plan = scope.of_plan
-        self.of_plan = plan
-        self.crew = Crew(looks)
+    def __init__(self, scope, crew, sight):
+        self.of_plan = scope.of_plan
+        self.crew = crew
+        self.sight = sight
+        self.whole_at = scope.whole_at
         self.track = scope.track
-        names = self.crew.isle_names
-        self.bit_row = [plan.bits[name] for name in names]
-        whole = scope.whole_name()
-        self.whole_at = None if whole is None else names.index(whole)
-        reader = None if self.track is None else self.track.to_place
-        self.reader_at = names.index(reader) if reader in names else None
+        # How many bits the held marks have.
+        self.low = 0 if scope.track is None else 2 * scope.track.holders
+        self.of_isle = None if self.whole_at is None else scope.of_plan.isle_row[self.whole_at]
+        self.tables = {} if self.of_isle is None else mark_tables(scope.of_plan.ground, self.of_isle)
+        # What was found already, as it is asked for again and again.
+        self.found_moves = {}
+        self.found_tails = {}
+        self.found_held = {}
 
     def first_row_of(self):
         """The row of the beginning."""
-        held = () if self.track is None else ("open",) * self.track.holders
-        return (self.crew.first_stands(), () if self.whole_at is None else FIRST_MARKS, held)
+        mark = 0 if self.of_isle is None else FIRST_MARK
+        return (self.crew.first_sum() << 5 | mark) << self.low | (1 << self.low) - 1
 
     def rows_behind(self, row):
         """The list of the next rows of a row."""
-        stands = row[0]
-        rows = [self._behind(row, at, other, word) for at, other, word in self.crew.moves_from(stands)]
-        if self.whole_at is not None and stands[self.whole_at][2]:
-            rows.append(self._behind(row, self.whole_at, stands[self.whole_at], "tick"))
+        if self.low:
+            return [other for other, _ in self.held_behind(row)]
+        mark = row & 31
+        return [begin | table[mark] for begin, table, _, _ in self.moves_from(row >> 5)]
+
+    def held_behind(self, row):
+        """The list of the pairs (next row, whether the question is bad in it) of a row, if a clamp holds."""
+        mark = row >> self.low & 31
+        held = row & (1 << self.low) - 1
+        rows = []
+        for begin, table, seen, became in self.moves_from(row >> self.low + 5):
+            behind = table[mark]
+            key = (seen, DRIVEN[behind], became, held)
+            holds, is_bad = self.found_held[key] if key in self.found_held else self._held(key)
+            rows.append(((begin | behind) << self.low | holds, is_bad))
         return rows
+
+    def seen_in(self, row):
+        """What is seen of the isles in a row."""
+        return row >> self.low + 5 & SEEN
 
     def is_bad_in(self, row):
         """Whether the question is bad in a row."""
-        stands, marks, held = row
-        away, shut = self._masks(stands)
-        dark = self.of_plan.dark_mask(away)
-        if self.track is None:
-            is_dark = dark & self.bit_row[self.whole_at]
-            return len(isle_faults(stands[self.whole_at][2], marks, is_dark)) > 0
-        if self.reader_at is not None and not stands[self.reader_at][2]:
-            return False
-        return self.track.end_mark(self._driver_mark(marks, dark), dark, shut, held) != "clean"
+        mark = row >> self.low & 31
+        seen = row >> self.low + 5 & SEEN
+        if self.low:
+            return self.sight.is_bad_by(seen, mark, row & (1 << self.low) - 1)
+        return mark >= self.sight.kind_of(seen)
+
+    def row_of(self, number):
+        """The row with a number."""
+        marks = () if self.whole_at is None else marks_of(number >> self.low & 31)
+        held = tuple([MARK_WORDS[number >> shift & 3] for shift in range(self.low - 2, -2, -2)])
+        return (self.crew.stands_of(number >> self.low + 5), marks, held)
+
+    def number_for(self, row):
+        """The number of a row."""
+        return self.packed(self.crew.sum_of(row[0]), *row[1:])
+
+    def packed(self, number, marks, held):
+        """The number of a row with this number of the crew, these marks and these held marks."""
+        number = number << 5 | (0 if self.of_isle is None else mark_number(marks))
+        for word in held:
+            number = number << 2 | MARK_AT[word]
+        return number
 
     def events_between(self, row, other):
         """The list of events that lead from a row to a next one: silent ones, and at its end one that is not."""
-        events = self.crew.events_between(row[0], other[0])
-        return events if events else [("tick", self.crew.isle_names[self.whole_at])]
+        events = self.crew.events_between(row >> self.low + 5, other >> self.low + 5)
+        return events if events else [("tick", self.of_isle.name)]
 
-    def _masks(self, stands):
-        """The isles that are away and those that are shut, as far as this is read."""
-        away = shut = 0
-        for bit, stand in zip(self.bit_row, stands):
-            if stand[4]:
-                away = away | bit
-            if stand[3]:
-                shut = shut | bit
-        return away, shut
+    def moves_from(self, number):
+        """The list of (number of the crew and no marks, table of the marks, what is seen, who became shut) for what may
+        come behind a number of the crew. If no clamp holds, how bad it is stands in the place of what is seen."""
+        if number not in self.found_moves:
+            whole_at = self.whole_at
+            tails = self.found_tails
+            moves = []
+            for other, at, word in self.crew.moves_from(number):
+                key = (word if at == whole_at else None, other & SEEN)
+                table, seen = tails[key] if key in tails else self._tail(key)
+                moves.append((other << 5, table, seen, (other & ~number) >> 8 & 255))
+            if self.of_isle is not None and not number >> 16 + whole_at & 1:
+                moves.append((number << 5, *self._tail(("tick", number & SEEN)), 0))
+            self.found_moves[number] = moves
+        return self.found_moves[number]
 
-    def _behind(self, row, at, other, word):
-        """The row behind an event by which the isle with this index in the cone comes to a stand."""
-        old, marks, held = row
-        stands = (*old[:at], other, *old[at + 1:])
-        away, shut = self._masks(stands)
-        dark = self.of_plan.dark_mask(away)
-        if self.whole_at is not None:
-            marks = self._marks_behind(marks, word if at == self.whole_at else None, dark)
-        if held:
-            became = self.bit_row[at] if other[3] and not old[at][3] else 0
-            held = tuple(self.track.held_behind(self._driver_mark(marks, dark), dark, shut, became, held))
-        return (stands, marks, held)
+    def _tail(self, key):
+        """(table of the marks, what is seen or how bad it is) for an event that does this to the full isle, or nothing,
+        and behind which this is seen: word and seen are a key."""
+        if key not in self.found_tails:
+            word, seen = key
+            self.found_tails[key] = (self._table(word, seen & 255), seen if self.low else self.sight.kind_of(seen))
+        return self.found_tails[key]
 
-    def _marks_behind(self, marks, word, dark):
-        """The marks of the full isle behind an event that does this to it."""
-        bit = self.bit_row[self.whole_at]
-        if word is None and not dark & bit:
-            return marks
-        isle = self.crew.looks[self.whole_at].of_isle
-        leash = self.of_plan.leash_masks[self.of_plan.index_of[isle.name]]
-        return marks_behind(isle, marks, word, dark & bit, dark & leash)
+    def _table(self, word, away):
+        """What becomes of the marks by an event that does this to the full isle, or nothing, behind which these isles
+        are away."""
+        if self.of_isle is None:
+            return STAYS
+        key = (word, self.of_plan.dim_of(self.whole_at, away))
+        if key not in self.tables:
+            self.tables[key] = mark_table(self.of_isle, *key)
+        return self.tables[key]
 
-    def _driver_mark(self, marks, dark):
-        """The mark behind the driver of the wire."""
-        if self.whole_at is None:
-            return "clean"
-        return begin_mark(marks[0], marks[1], dark & self.bit_row[self.whole_at])
+    def _held(self, key):
+        """(number of the held marks, whether the question is bad) behind an event: key tells what is seen, the number
+        of the mark behind the driver, who became shut, and what was held."""
+        seen, driven, became, held = key
+        dark = self.of_plan.dark_mask(seen & 255)
+        holds, end = numbers_behind(self.sight.step_row, driven, dark, seen >> 8 & 255, became, held)
+        self.found_held[key] = (holds, end != 0 and not seen & self.sight.off_bits)
+        return self.found_held[key]
+
+
+def grid_on(plan, question):
+    """The grid of the rows of the table of a question of a plan."""
+    scope = scope_on(plan, question)
+    return Grid(scope, Crew(scope.looks(), plan.need_masks), Sight(scope, [0]))
 
 
 def grid_of(chip, question):
     """The grid of the rows of the table of a question, any value."""
     scope = scope_of(chip, question)
-    return Grid(scope, scope.looks)
+    return Grid(scope, Crew(scope.looks(), scope.of_plan.need_masks), Sight(scope, [0]))
 
 
 def whole_grid_of(chip, question):
     """The grid of the states of the cone of a question, any value."""
     scope = scope_of(chip, question)
-    return Grid(scope, scope.whole_looks())
+    return Grid(scope, Crew(scope.whole_looks(), scope.of_plan.need_masks), Sight(scope, [0]))
 
 
 def rows_that_come(grid, most):
@@ -128,9 +173,45 @@ def rows_that_come(grid, most):
     return ahead, bad
 
 
+def first_bad(grid):
+    """The same pair, but with no more rows than it takes to come to the first bad one."""
+    begin = grid.first_row_of()
+    ahead = {begin: None}
+    # The first row may be bad where isles are left out.
+    bad = begin if grid.is_bad_in(begin) else None
+    queue = [begin]
+    told = 0
+    while bad is None and told < len(queue):
+        bad = _first_bad_behind(grid, queue[told], ahead, queue)
+        told += 1
+    return ahead, bad
+
+
+def _first_bad_behind(grid, row, ahead, queue):
+    """The first bad row of the next rows of a row that were not met yet, or None; puts them among those that were."""
+    if grid.low:
+        for other, is_bad in grid.held_behind(row):
+            if other not in ahead:
+                ahead[other] = row
+                queue.append(other)
+                if is_bad:
+                    return other
+        return None
+    mark = row & 31
+    for begin, table, kind, _ in grid.moves_from(row >> 5):
+        behind = table[mark]
+        other = begin | behind
+        if other not in ahead:
+            ahead[other] = row
+            queue.append(other)
+            if behind >= kind:
+                return other
+    return None
+
+
 def shows_safe(grid, rows):
-    """Whether these rows, a tuple, are ascending, have the first row and with each row all next rows, and none of them
-    is bad."""
+    """Whether these rows, a list of numbers, are ascending, have the first row and with each row all next rows, and
+    none of them is bad."""
     known = {row: True for row in rows}
     if not is_ascending(rows) or grid.first_row_of() not in known:
         return False

@@ -21,7 +21,7 @@ def hearing(chip, name, *, most=20000):
     grid = HearGrid(chip, name)
     ahead, unheard = rows_that_come(grid, most)
     if unheard is None:
-        return ("always", tuple(sorted(list(ahead))))
+        return ("always", tuple([grid.row_of(number) for number in sorted(list(ahead))]))
     return ("not", run_with_sleep(chip, grid.crew.isle_names, events_up_to(grid, ahead, unheard)))
 
 
@@ -32,7 +32,7 @@ def lets_hearing(chip, name, thing):
         return False
     word, told = thing
     if word == "always":
-        return _are_rows(grid, told) and shows_safe(grid, told)
+        return _are_rows(grid, told) and shows_safe(grid, [grid.number_for(row) for row in told])
     return word == "not" and isinstance(told, list) and _leads_to_unheard(chip, name, told)
 
 

@@ -1,8 +1,7 @@
-"""Hearing grids: the hearing rows of a wire, and which come behind which."""
+"""Hearing grids: the hearing rows of a wire, and which come behind which. A row is told as the number of its crew."""
 
 from duskisles.crews import Crew
-from duskisles.looks import Look
-from duskisles.tracks import mask_of
+from duskisles.scopes import looks_at
 
 
 class HearGrid:
@@ -10,35 +9,35 @@ class HearGrid:
 
     def __init__(self, chip, name):
         plan = chip.plan()
-        wire = chip.wire(name)
-        owners = mask_of(wire.owners(), plan.bits)
-        ends = plan.bits[wire.driver] | plan.bits[wire.reader]
+        track = plan.track_of_wire(chip.wire(name).name)
+        owners = track.owner_bits()
+        ends = plan.bits[track.from_place] | plan.bits[track.to_place]
         cone_bits = plan.closed(ends | owners, plan.needed_masks)
-        read_bits = (plan.phase_bits(cone_bits), ends, owners, 0)
-        self.crew = Crew([_look_at(plan, other, read_bits) for other in plan.names_in(cone_bits)])
-        names = self.crew.isle_names
-        self.end_places = [names.index(end) for end in (wire.driver, wire.reader) if end != "shore"]
-        self.owner_places = [names.index(owner) for owner in wire.owners()]
+        self.crew = Crew(looks_at(plan, cone_bits, (plan.phase_bits(cone_bits), ends, owners, 0), 0), plan.need_masks)
+        # The bits of the number of a crew for clocks that are off, and for owners that are shut.
+        self.off_bits = ends << 16
+        self.shut_bits = owners << 8
 
     def first_row_of(self):
         """The row of the beginning."""
-        return self.crew.first_stands()
+        return self.crew.first_sum()
 
     def rows_behind(self, row):
         """The list of the next rows of a row."""
-        return [(*row[:at], other, *row[at + 1:]) for at, other, _ in self.crew.moves_from(row)]
+        return [other for other, _, _ in self.crew.moves_from(row)]
 
     def is_bad_in(self, row):
         """Whether the wire is not heard in a row."""
-        return all([row[at][2] for at in self.end_places]) and any([row[at][3] for at in self.owner_places])
+        return not row & self.off_bits and row & self.shut_bits > 0
+
+    def row_of(self, number):
+        """The row with a number."""
+        return self.crew.stands_of(number)
+
+    def number_for(self, row):
+        """The number of a row."""
+        return self.crew.sum_of(row)
 
     def events_between(self, row, other):
         """The list of events that lead from a row to a next one: silent ones, and at its end one that is not."""
         return self.crew.events_between(row, other)
-
-
-def _look_at(plan, name, read_bits):
-    """How hearing looks at an isle."""
-    bit = plan.bits[name]
-    read_flags = tuple([mask & bit > 0 for mask in read_bits])
-    return Look(plan.isle_row[plan.index_of[name]], read_flags, whole=False, awake=plan.sleepless_mask & bit > 0)

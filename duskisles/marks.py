@@ -2,7 +2,7 @@
 
 from duskisles.errors import InvalidEvent, NotNow
 from duskisles.moves import can_come, events_at, first_state, is_event, state_behind
-from duskisles.questions import check_question, faults_of, is_moment_of
+from duskisles.questions import check_question, faults_of, is_bad_at
 
 
 def begin(chip):
@@ -33,4 +33,4 @@ def bad_moments(chip, state):
 def is_bad(chip, state, question):
     """Whether a question, any value, is bad in a state."""
     check_question(chip, question)
-    return any([is_moment_of(question, moment) for moment in faults_of(chip.plan(), state)])
+    return is_bad_at(chip.plan(), state, question)

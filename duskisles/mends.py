@@ -3,55 +3,53 @@
 from duskisles.duals import are_dual, least_covers, within_none
 from duskisles.errors import NotSafe, TooMany
 from duskisles.forms import is_ascending, is_tuple
-from duskisles.memory import Memory
-from duskisles.props import is_spot, spot_row, with_propped
+from duskisles.menders import Mender
+from duskisles.props import check_spots, is_spot, spot_row, with_propped
 from duskisles.tracks import mask_of
-from duskisles.verdict import is_safe, lets_harm, lets_tables
+from duskisles.verdict import lets_harm, lets_tables
 
 MOST_SPOTS = 8
 
 
 def mends(chip, *spots):
     """Whether these spots, any values, mend a chip."""
-    return is_safe(with_propped(chip, spots))
+    mender = Mender(chip)
+    check_spots(mender.known, spots)
+    return not mender.is_bad_once(mender.every_bit & ~mender.bits_of(spots))
 
 
 def mending(chip):
     """A tuple of (spot, question, events): spots that mend a chip, and for each what is bad without it."""
-    memory = Memory()
-    left = spot_row(chip)
-    _check_mended(memory, chip)
-    for spot in spot_row(chip):
-        fewer = _others(left, (spot,))
-        if memory.bad_question(with_propped(chip, fewer)) is None:
-            left = fewer
-    return tuple([(spot, *memory.harm_of(with_propped(chip, _others(left, (spot,))))) for spot in left])
+    mender = Mender(chip)
+    _check_mended(mender)
+    left = 0
+    for index, _ in enumerate(mender.known):
+        if not mender.is_bad(left | 1 << index):
+            left = left | 1 << index
+    return tuple([(spot, *mender.harm_of(left | 1 << index)) for index, spot in enumerate(mender.known)
+                  if not left >> index & 1])
 
 
 def clauses(chip):
     """The tuple of all clauses, shorter ones first, then ascending."""
-    _check_count(chip)
-    return _told(spot_row(chip), _clause_masks(Memory(), chip))
+    mender = _small_mender(chip)
+    return _told(mender, mender.least_bad())
 
 
 def fewest(chip):
     """The first set of those with the fewest spots that mend a chip."""
-    _check_count(chip)
-    memory = Memory()
-    _check_mended(memory, chip)
-    known = spot_row(chip)
-    return _told(known, least_covers(_clause_masks(memory, chip), len(known)))[0]
+    mender = _small_mender(chip)
+    _check_mended(mender)
+    return _told(mender, least_covers(mender.least_bad()))[0]
 
 
 def mend_paper(chip):
     """(sets, clauses): what shows somebody who does not trust this which spots mend a chip."""
-    _check_count(chip)
-    memory = Memory()
-    known = spot_row(chip)
-    masks = _clause_masks(memory, chip)
-    sets = _told(known, least_covers(masks, len(known)))
-    return (tuple([(row, memory.tables_of(with_propped(chip, row))) for row in sets]),
-            tuple([(row, *memory.harm_of(with_propped(chip, _others(known, row)))) for row in _told(known, masks)]))
+    mender = _small_mender(chip)
+    masks = mender.least_bad()
+    sets = [(row, mender.tables_of(mender.every_bit & ~mender.bits_of(row)))
+            for row in _told(mender, least_covers(masks))]
+    return (tuple(sets), tuple([(row, *mender.harm_of(mender.bits_of(row))) for row in _told(mender, masks)]))
 
 
 def lets_mends(chip, thing):
@@ -69,17 +67,18 @@ def lets_mends(chip, thing):
                      for row, question, events in thing[1]]))
 
 
-def _check_count(chip):
-    """Raises TooMany if there are more spots than sets of them can be gone through."""
-    if len(spot_row(chip)) > MOST_SPOTS:
+def _small_mender(chip):
+    """The mender of a chip. Raises TooMany if there are more spots than sets of them can be gone through."""
+    mender = Mender(chip)
+    if len(mender.known) > MOST_SPOTS:
         raise TooMany(MOST_SPOTS)
+    return mender
 
 
-def _check_mended(memory, chip):
+def _check_mended(mender):
     """Raises NotSafe if all spots together do not mend the chip."""
-    whole = with_propped(chip, spot_row(chip))
-    if memory.bad_question(whole) is not None:
-        question, events = memory.harm_of(whole)
+    if mender.is_bad(0):
+        question, events = mender.harm_of(0)
         raise NotSafe(question, events)
 
 
@@ -88,29 +87,9 @@ def _others(known, row):
     return tuple([spot for spot in known if spot not in row])
 
 
-def _clause_masks(memory, chip):
-    """The list of the clauses, each as bits of the spots."""
-    if memory.bad_question(chip) is None:
-        return []
-    known = spot_row(chip)
-    masks = []
-    # A set within another one is a lesser number, so it comes first.
-    for mask in range(1 << len(known)):
-        if not any([mask & other == other for other in masks]):
-            chosen = _others(known, _spots_in(known, mask))
-            if memory.bad_question(with_propped(chip, chosen)) is not None:
-                masks.append(mask)
-    return masks
-
-
-def _spots_in(known, mask):
-    """The ascending tuple of the spots with these bits."""
-    return tuple([spot for index, spot in enumerate(known) if mask >> index & 1])
-
-
-def _told(known, masks):
+def _told(mender, masks):
     """The tuple of these sets of spots, shorter ones first, then ascending."""
-    return tuple(sorted([_spots_in(known, mask) for mask in masks], key=lambda row: (len(row), row)))
+    return tuple(sorted([mender.spots_in(mask) for mask in masks], key=lambda row: (len(row), row)))
 
 
 def _are_rows(known, value, count):

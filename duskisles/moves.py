@@ -72,8 +72,11 @@ def state_behind(plan, state, event):
     word = word_of(plan, isles, event)
     dark = plan.dark_mask(away_mask(rows))
     became = 1 << at if word == "shut" and not isles[at][3] else 0
-    marked = tuple([_marked(plan, index, row, word if index == at else None, dark)
-                    for index, row in enumerate(rows)])
+    if dark:
+        rows = [_marked(plan, index, row, word if index == at else None, dark) for index, row in enumerate(rows)]
+    elif word is not None and at is not None:
+        rows[at] = _marked(plan, at, rows[at], word, dark)
+    marked = tuple(rows)
     return (marked, held_behind(plan, marked, held, dark, became) if held else ())
 
 

@@ -2,10 +2,11 @@
 
 from duskisles.errors import HasTurns, HoldsOwn, InvalidIsle, NoPair
 from duskisles.forms import is_ascending, is_tuple
-from duskisles.memory import Memory
-from duskisles.rows import candidates_of, follows, is_arranged, is_order, keeps, keeps_all, orders_with
+from duskisles.orderings import Orderings
+from duskisles.rows import (FOLLOWING, broken, candidates_of, first_order, follows, is_arranged, is_order, keeps,
+                            keeps_all, many_orders, orders_with, swapped)
 from duskisles.stations import Holding
-from duskisles.verdict import lets_harm, lets_tables, verdict
+from duskisles.verdict import lets_harm, lets_tables
 
 
 def ordered(chip, name, order):
@@ -22,13 +23,13 @@ class Orders:
     """The safe orders of an isle. It never changes."""
 
     def __init__(self, chip, name):
-        self._chip = chip
         self._isle = _ordered_isle(chip, name)
+        self._orderings = Orderings(chip, self._isle)
         self._candidates = candidates_of(self._isle)
-        self._begin = orders_with(self._isle, self._candidates, ())[0]
-        pairs = _needed_pairs(chip, self._isle, self._begin)
-        self._pairs = () if pairs is None else pairs
-        self._safe = () if pairs is None else tuple(orders_with(self._isle, pairs, ()))
+        self._begin = first_order(self._isle, self._candidates)
+        self._is_safe = self._orderings.bad_question(self._begin) is None
+        self._pairs = _needed_pairs(self._orderings, self._candidates, self._begin) if self._is_safe else ()
+        self._orderings.forget()
 
     @property
     def candidates(self):
@@ -41,44 +42,45 @@ class Orders:
         return self._pairs
 
     def __len__(self):
-        return len(self._safe)
+        return len(range(self._many()))
 
     def __contains__(self, order):
-        return order in self._safe
+        return self._is_safe and is_order(self._isle, order) and keeps_all(order, self._pairs)
 
     def every_safe(self):
         """Yields all safe orders, ascending."""
-        yield from self._safe
+        orders = orders_with(self._isle, self._pairs) if self._is_safe else []
+        yield from orders
 
     def run(self, pair):
         """(order, question, events): an order that breaks this one of the pairs alone, and a run that shows it bad."""
         if pair not in self._pairs:
             raise NoPair(pair)
-        others = [other for other in self._pairs if other != pair]
-        return self._harm_with(orders_with(self._isle, others, (pair,))[0])
+        return self._orderings.harm_of(self._order_without(pair))
 
     def reason(self):
         """None, or (order, question, events) with the first order that keeps all candidates, if no order is safe."""
-        return None if self._safe else self._harm_with(self._begin)
+        return None if self._is_safe else self._orderings.harm_of(self._begin)
 
     def paper(self):
         """What shows somebody who does not trust this which orders are safe."""
-        if not self._safe:
-            return ("none", *self._harm_with(self._begin))
-        memory = Memory()
+        if not self._is_safe:
+            return ("none", *self.reason())
+        found = {}
+        tables = self._orderings.tables_of(self._begin, found)
         needed = tuple([(pair, *self.run(pair)) for pair in self._pairs])
-        free = [(pair, orders_with(self._isle, self._pairs, (pair,))[0])
-                for pair in _free_pairs(self._candidates, self._pairs)]
-        rows = tuple([(pair, order, memory.tables_of(self._chip_with(order))) for pair, order in free])
-        return ("orders", self._begin, memory.tables_of(self._chip_with(self._begin)), needed, rows)
+        free = [(pair, self._order_without(pair)) for pair in _free_pairs(self._candidates, self._pairs)]
+        rows = tuple([(pair, order, self._orderings.tables_of(order, found)) for pair, order in free])
+        return ("orders", self._begin, tables, needed, rows)
 
-    def _chip_with(self, order):
-        """The chip with an order of the isle."""
-        return _with_order(self._chip, self._isle.name, order)
+    def _many(self):
+        """The number of safe orders."""
+        return many_orders(self._isle, self._pairs) if self._is_safe else 0
 
-    def _harm_with(self, order):
-        """(order, question, events) for an order that is not safe."""
-        return (order, *verdict(self._chip_with(order))[1:])
+    def _order_without(self, pair):
+        """The first order that breaks a candidate and keeps all other pairs."""
+        others = [other for other in self._pairs if other != pair]
+        return first_order(self._isle, [*others, broken(pair)])
 
 
 def lets_orders(chip, name, thing):
@@ -106,25 +108,19 @@ def _ordered_isle(chip, name):
     return isle
 
 
-def _needed_pairs(chip, isle, begin):
-    """The ascending tuple of the pairs that the safe orders of an isle are those to keep, or None if not even this
-    order is safe, which keeps all candidates."""
-    memory = Memory()
-    if memory.bad_question(_with_order(chip, isle.name, begin)) is not None:
-        return None
-    left = candidates_of(isle)
+def _needed_pairs(orderings, candidates, begin):
+    """The ascending tuple of the pairs that the safe orders of an isle are those to keep, if this order is safe, which
+    keeps all candidates."""
+    left = list(candidates)
     needed = []
-    while True:
-        # Only a pair that does not follow from others can be broken alone.
-        unsure = [pair for pair in left if pair not in needed and not follows(pair, left)]
-        if not unsure:
-            return tuple(sorted(needed))
-        others = [pair for pair in left if pair != unsure[0]]
-        order = orders_with(isle, others, (unsure[0],))[0]
-        if memory.bad_question(_with_order(chip, isle.name, order)) is None:
-            left = others
-        else:
-            needed.append(unsure[0])
+    # Only a pair that does not follow from others can be broken alone, so those that may follow come last.
+    for pair in sorted(candidates, key=lambda each: (each in FOLLOWING, each)):
+        if not follows(pair, left):
+            if orderings.is_harm(pair, swapped(begin, pair, left)):
+                needed.append(pair)
+            else:
+                left = [other for other in left if other != pair]
+    return tuple(sorted(needed))
 
 
 def _with_order(chip, name, order):

@@ -21,12 +21,16 @@ def is_spot(known, value):
     return value in known and not any([isinstance(part, bool) for part in value])
 
 
-def with_propped(chip, chosen):
-    """The chip with spots of it propped, all at once. Raises NoSpot for the first of any values that is none."""
-    known = spot_row(chip)
-    for value in chosen:
+def check_spots(known, values):
+    """Raises NoSpot for the first of any values that is none of these spots."""
+    for value in values:
         if not is_spot(known, value):
             raise NoSpot(value)
+
+
+def with_propped(chip, chosen):
+    """The chip with spots of it propped, all at once. Raises NoSpot for the first of any values that is none."""
+    check_spots(spot_row(chip), chosen)
     isles = [_propped_isle(chip[name], chosen) for name in chip.names]
     wires = [_propped_wire(chip.wire(name), chosen) for name in chip.wires]
     return Chip.of(isles, wires, chip.shore)
@@ -35,11 +39,13 @@ def with_propped(chip, chosen):
 def _propped_isle(isle, chosen):
     """The isle without those of its leash that are propped."""
     leash = [other for index, other in enumerate(isle.leash) if ("leash", isle.name, index) not in chosen]
-    return isle.changed(leash=tuple(leash))
+    return isle if len(leash) == len(isle.leash) else isle.changed(leash=tuple(leash))
 
 
 def _propped_wire(wire, chosen):
     """The wire with its stations propped."""
+    if wire.name not in [spot[1] for spot in chosen if spot[0] != "leash"]:
+        return wire
     stations = []
     for index, station in enumerate(wire.stations):
         gone = [other for other, _ in enumerate(station.line) if ("line", wire.name, index, other) in chosen]

@@ -34,11 +34,19 @@ def faults_of(plan, state):
         moments.extend([(word, isle.name) for word in isle_faults(row[2], row[5:], dark >> index & 1)])
     shut = shut_mask(isles)
     for track in plan.tracks:
-        if reader_listens(plan, isles, track):
-            mark = driver_mark(plan, isles, track, dark)
-            if track.end_mark(mark, dark, shut, track.held_in(held)) != "clean":
-                moments.append(("wire", track.wire_name))
+        if _ends_badly(plan, state, track, dark, shut):
+            moments.append(("wire", track.wire_name))
     return tuple(sorted(moments))
+
+
+def is_bad_at(plan, state, question):
+    """Whether a question is bad in a state."""
+    isles = state[0]
+    dark = plan.dark_mask(away_mask(isles))
+    if question[0] == "wire":
+        return _ends_badly(plan, state, plan.track_of_wire(question[1]), dark, shut_mask(isles))
+    index = plan.index_of[question[1]]
+    return len(isle_faults(isles[index][2], isles[index][5:], dark >> index & 1)) > 0
 
 
 def reader_listens(plan, isles, track):
@@ -46,6 +54,9 @@ def reader_listens(plan, isles, track):
     return track.to_place == "shore" or isles[plan.index_of[track.to_place]][2]
 
 
-def is_moment_of(question, moment):
-    """Whether a bad moment is one for which a question asks."""
-    return question[1] == moment[1] and (question[0] == "wire") == (moment[0] == "wire")
+def _ends_badly(plan, state, track, dark, shut):
+    """Whether the reader of a track listens and what comes to it is not clean, if these isles are dark and shut."""
+    isles, held = state
+    if not reader_listens(plan, isles, track):
+        return False
+    return track.end_mark(driver_mark(plan, isles, track, dark), dark, shut, track.held_in(held)) != "clean"

@@ -1,7 +1,7 @@
 """Runs that are shown to somebody who does not trust them."""
 
 from duskisles.moves import can_come, first_state, is_event, state_behind
-from duskisles.questions import check_question, faults_of, is_moment_of
+from duskisles.questions import check_question, is_bad_at
 
 
 def lets_run(chip, question, thing):
@@ -17,5 +17,5 @@ def lets_run(chip, question, thing):
         if bad or not is_event(chip, event) or not can_come(plan, state[0], event):
             return False
         state = state_behind(plan, state, event)
-        bad = any([is_moment_of(question, moment) for moment in faults_of(plan, state)])
+        bad = is_bad_at(plan, state, question)
     return bad

@@ -7,17 +7,20 @@ from duskisles.judge import judged
 
 def first_row(chip, question):
     """The row of the beginning of a question, any value."""
-    return grid_of(chip, question).first_row_of()
+    grid = grid_of(chip, question)
+    return grid.row_of(grid.first_row_of())
 
 
 def next_rows(chip, question, row):
     """The ascending tuple of the next rows of a row of a question, any value."""
-    return tuple(sorted(set(grid_of(chip, question).rows_behind(row))))
+    grid = grid_of(chip, question)
+    return tuple([grid.row_of(number) for number in sorted(set(grid.rows_behind(grid.number_for(row))))])
 
 
 def is_bad(chip, question, row):
     """Whether a question, any value, is bad in a row."""
-    return grid_of(chip, question).is_bad_in(row)
+    grid = grid_of(chip, question)
+    return grid.is_bad_in(grid.number_for(row))
 
 
 def rows_by_steps(chip, question):
@@ -26,13 +29,14 @@ def rows_by_steps(chip, question):
     level = [grid.first_row_of()]
     met = {level[0]: True}
     while level:
-        yield from level
+        for number in level:
+            yield grid.row_of(number)
         fresh = []
-        for row in level:
-            if not grid.is_bad_in(row):
-                fresh.extend([other for other in grid.rows_behind(row) if other not in met])
+        for number in level:
+            if not grid.is_bad_in(number):
+                fresh.extend([other for other in grid.rows_behind(number) if other not in met])
         level = sorted(set(fresh))
-        met.update({row: True for row in level})
+        met.update({number: True for number in level})
 
 
 def least_table(chip, question, *, most=20000):

@@ -20,7 +20,7 @@ def walk(chip, name, state):
     """The marks behind the driver and behind each station in a state."""
     wire = chip.wire(name)
     plan = chip.plan()
-    track = plan.tracks[chip.wires.index(wire.name)]
+    track = plan.track_of_wire(wire.name)
     dark = plan.dark_mask(away_mask(state[0]))
     return along(chip, name, begins=driver_mark(plan, state[0], track, dark), dark=plan.names_in(dark),
                  shut=plan.names_in(shut_mask(state[0])), held=track.held_in(state[1]))

@@ -258,7 +258,7 @@ class DualsTest(unittest.TestCase):
             rows = {dice.randrange(1 << many) for _ in range(dice.randint(0, 6))}
             rows = [row for row in rows if not any(other != row and other & row == other for other in rows)]
             told = self.hitting(rows, many)
-            self.assertEqual(sorted(least_covers(rows, many)), told)
+            self.assertEqual(sorted(least_covers(rows)), told)
             self.assertIs(are_dual(rows, told, many), True)
             self.assertIs(are_dual(told, rows, many), True)
             other = [dice.randrange(1 << many) for _ in told] if dice.random() < 0.5 else told[:-1]
