@@ -20,9 +20,9 @@ def check_chip(isles, wires, shore):
     _check_twins("wires", wires)
     if not is_integer(shore) or not 1 <= shore <= MOST_SHORE:
         raise InvalidChip("shore", None)
-    names = [isle.name for isle in isles]
-    _check_isles(_by_name(isles), names)
-    _check_wires(_by_name(wires), names)
+    places = ["shore", *[isle.name for isle in isles]]
+    _check_isles(_by_name(isles), places)
+    _check_wires(_by_name(wires), places)
 
 
 def _by_name(things):
@@ -33,44 +33,50 @@ def _by_name(things):
 def _check_twins(part, things):
     """Raises InvalidChip for the first thing whose name an earlier one has."""
     names = [thing.name for thing in things]
-    for index, name in enumerate(names):
-        if name in names[:index]:
-            raise InvalidChip(part, name)
+    if len(set(names)) < len(names):
+        for index, name in enumerate(names):
+            if name in names[:index]:
+                raise InvalidChip(part, name)
 
 
-def _check_isles(isles, names):
+def _check_isles(isles, places):
     """Raises InvalidChip for the first isle whose leash, then for the first one whose needs name no isle."""
+    if _are_known([name for isle in isles for name in (*isle.leash, *isle.needs)], places):
+        return
     for isle in isles:
-        if not _are_known(isle.leash, names):
+        if not _are_known(isle.leash, places):
             raise InvalidChip("leash", isle.name)
     for isle in isles:
-        if not _are_known(isle.needs, names):
+        if not _are_known(isle.needs, places):
             raise InvalidChip("needs", isle.name)
 
 
-def _check_wires(wires, names):
+def _check_wires(wires, places):
     """Raises InvalidChip for the first wire with a part that names no isle."""
+    # Mostly nothing is wrong, and then it is not asked what it is.
+    if _are_known([name for wire in wires for name in _names_on(wire)], places):
+        return
     for wire in wires:
-        part = _strange_part(wire, names)
-        if part is not None:
-            raise InvalidChip(part, wire.name)
+        stations = wire.stations
+        parts = (("driver", [wire.driver]), ("reader", [wire.reader]), ("on", [station.on for station in stations]),
+                 ("owner", [station.owner for station in stations if station.owner is not None]),
+                 ("line", [name for station in stations for name in station.line]))
+        for part, names in parts:
+            if not _are_known(names, places):
+                raise InvalidChip(part, wire.name)
 
 
-def _strange_part(wire, names):
-    """The first part of a wire that names no isle, or None."""
-    if wire.driver not in [*names, "shore"]:
-        return "driver"
-    if wire.reader not in [*names, "shore"]:
-        return "reader"
-    if not _are_known(wire.places(), names):
-        return "on"
-    if not _are_known(wire.owners(), names):
-        return "owner"
-    if not _are_known(wire.lines(), names):
-        return "line"
-    return None
+def _names_on(wire):
+    """The list of all places that a wire names."""
+    names = [wire.driver, wire.reader]
+    for station in wire.stations:
+        names.append(station.on)
+        if station.owner is not None:
+            names.append(station.owner)
+            names.extend(station.line)
+    return names
 
 
-def _are_known(some, names):
-    """Whether all these are among the names."""
-    return all([name in names for name in some])
+def _are_known(names, places):
+    """Whether all these are places of the chip; the shore stands only where it may."""
+    return len(set(names) - set(places)) == 0

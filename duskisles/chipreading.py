@@ -10,6 +10,9 @@ MOST_TURNS = 6
 MOST_STATIONS = 5
 ISLE_LINES = ("isle", "leash", "needs", "rests", "sleep", "wake", "turn")
 STATION_LINES = ("pass", "clamp", "hold")
+BEGINS = ("shore", "isle", "wire")
+# The places of the lines of an isle, which ascend.
+PLACES = {"isle": 0, "leash": 1, "needs": 2, "rests": 3, "sleep": 4, "wake": 5, "turn": 6}
 
 # For each line: the kinds of the words behind its first one, the kind of those that follow these, and how many of
 # them there are at least and at most. Kinds are those that _fits tells.
@@ -57,18 +60,71 @@ def parts_of(lines):
 def _groups(lines):
     """The lines, as lists of words, in groups: the one of the shore, then those of each isle and each wire."""
     groups = []
+    # Words that were found to be names; most of them come again.
+    known = {}
     for row, line in enumerate(lines):
         words = line.split(" ")
-        wrong = _wrong_word(words, groups)
-        if wrong is not None:
-            raise InvalidText(row, wrong)
-        if words[0] in ("shore", "isle", "wire"):
+        # What is plainly right, as most lines are, is not looked at word by word.
+        if not groups or not _is_plain(words, groups[-1], known):
+            wrong = _wrong_word(words, groups)
+            if wrong is not None:
+                raise InvalidText(row, wrong)
+        if words[0] in BEGINS:
             groups.append([words])
         else:
             groups[-1].append(words)
     if len(groups) == 1:
         raise InvalidText(1, 0)
     return groups
+
+
+def _is_plain(words, group, known):
+    """Whether it is plain that a line can stand behind this group of lines, the last one; many that can are not."""
+    first = words[0]
+    begin = group[0][0]
+    if first not in FORMS or first == "shore" or begin == "shore" and first != "isle":
+        return False
+    slots, _, least, most = FORMS[first]
+    if not len(slots) + least < len(words) <= len(slots) + most + 1:
+        return False
+    if first in STATION_LINES:
+        if begin != "wire" or len(group) > MOST_STATIONS or words[1] != group[0][1]:
+            return False
+        return _are_names(words[2:], known) if first != "clamp" else _is_plain_clamp(words, known)
+    if first == "wire":
+        return is_own_name(words[1]) and _are_names(words[2:], known)
+    if begin == "wire":
+        return False
+    if first == "isle":
+        amounts = CHOICES["amount"]
+        return is_own_name(words[1]) and words[2] in amounts and words[3] in amounts
+    return words[1] == group[0][1] and PLACES[first] > PLACES[group[-1][0]] and _is_plain_part(words, known)
+
+
+def _is_plain_clamp(words, known):
+    """The same for the words of a clamp behind the first two, if they are as many as they may be."""
+    return words[4] in CHOICES["bit"] and _are_names(words[2:4], known) and _are_names(words[5:], known)
+
+
+def _is_plain_part(words, known):
+    """The same for the words of a line that tells a part of an isle."""
+    first = words[0]
+    if first == "turn":
+        return words[2] in CHOICES["row"] and words[3] in CHOICES["digit"] and words[4] in CHOICES["digit"]
+    if first in CHOICES:
+        choices = CHOICES[first]
+        return all([word in choices for word in words[2:]])
+    return _are_names(words[2:], known)
+
+
+def _are_names(words, known):
+    """Whether these words are names, of which `known` has those that were found already."""
+    for word in words:
+        if word not in known:
+            if not is_name(word):
+                return False
+            known[word] = True
+    return True
 
 
 def _wrong_word(words, groups):
@@ -135,11 +191,8 @@ def _wire(group):
 
 def _station(words):
     """The station of a line."""
-    kind, _, on, *rest = words
-    if kind == "pass":
-        return Pass(on)
-    if kind == "clamp":
-        owner, bit, *line = rest
-        return Clamp(on, owner, gives=int(bit), line=tuple(line))
-    owner, *line = rest
-    return Holding(on, owner, line=tuple(line))
+    if words[0] == "pass":
+        return Pass(words[2])
+    if words[0] == "clamp":
+        return Clamp(words[2], words[3], gives=int(words[4]), line=tuple(words[5:]))
+    return Holding(words[2], words[3], line=tuple(words[4:]))

@@ -21,7 +21,8 @@ class Chip:
         self._isles = {isle.name: isle for isle in isles}
         self._wires = {wire.name: wire for wire in wires}
         self._shore = shore
-        self._plan = plan_of(self._isle_row(), self._wire_row())
+        # As soon as it was asked for, the plan of its isles and wires.
+        self._plans = []
         self._questions = (*[("isle", name) for name in self._names], *[("wire", name) for name in self._wire_names])
 
     @classmethod
@@ -76,8 +77,10 @@ class Chip:
         return self._wires[name]
 
     def plan(self):
-        """The plan of its isles and wires."""
-        return self._plan
+        """The plan of its isles and wires, which is made when it is asked for first."""
+        if not self._plans:
+            self._plans.append(plan_of(self._isle_row(), self._wire_row()))
+        return self._plans[0]
 
     def with_isles(self, *isles):
         """The chip in which these isles stand in the place of those of the same names, or are added."""

@@ -17,9 +17,10 @@ class Conductor:
 
     def __init__(self, chip, *, most=20000):
         self._chip = chip
-        self._roads = Roads(chip.plan(), most)
-        self._ruling = Ruling(chip.plan(), self._roads)
-        self._present = first_state(chip.plan())
+        self._plan = chip.plan()
+        self._roads = Roads(self._plan, most)
+        self._ruling = Ruling(self._plan, self._roads)
+        self._present = first_state(self._plan)
         self._kept = None
 
     def __len__(self):
@@ -55,7 +56,7 @@ class Conductor:
         for index, event in enumerate(events):
             if not is_event(self._chip, event):
                 raise InvalidEvent(index)
-        plan = self._chip.plan()
+        plan = self._plan
         state = self._present
         for index, event in enumerate(events):
             if not can_come(plan, state[0], event):
@@ -115,7 +116,7 @@ class Conductor:
 
     def _comes(self, value):
         """Whether any value is a state that comes."""
-        return is_state(self._chip.plan(), value) and value in self._roads.number_of
+        return is_state(self._plan, value) and value in self._roads.number_of
 
     def _is_let(self, state):
         """Whether a state that comes is let."""

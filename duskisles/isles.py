@@ -99,17 +99,18 @@ def _wrong_part(parts):
         return "plain"
     if parts["kept"] + parts["plain"] == 0:
         return "registers"
-    if not is_lead(parts["leash"]) or parts["name"] in parts["leash"]:
+    # What is the default, as most parts are, is not looked at more closely.
+    if parts["leash"] != () and (not is_lead(parts["leash"]) or parts["name"] in parts["leash"]):
         return "leash"
-    if not is_name_row(parts["needs"], MOST_NEEDS) or parts["name"] in parts["needs"]:
+    if parts["needs"] != () and (not is_name_row(parts["needs"], MOST_NEEDS) or parts["name"] in parts["needs"]):
         return "needs"
     if not isinstance(parts["sleeps"], bool):
         return "sleeps"
-    if not is_words(parts["sleep"], Isle.SLEEP):
+    if parts["sleep"] != Isle.SLEEP and not is_words(parts["sleep"], Isle.SLEEP):
         return "sleep"
-    if not is_words(parts["wake"], Isle.WAKE):
+    if parts["wake"] != Isle.WAKE and not is_words(parts["wake"], Isle.WAKE):
         return "wake"
-    if not _are_turns(parts["turns"], parts["sleep"], parts["wake"]):
+    if parts["turns"] != () and not _are_turns(parts["turns"], parts["sleep"], parts["wake"]):
         return "turns"
     return None
 

@@ -11,9 +11,9 @@ def is_integer(value):
 
 def is_name(value):
     """Whether any value is a string of 1 to 8 letters a to z."""
-    if not isinstance(value, str) or not 1 <= len(value) <= MOST_LETTERS:
+    if not isinstance(value, str) or len(value) > MOST_LETTERS:
         return False
-    return all(["a" <= letter <= "z" for letter in value])
+    return value.isascii() and value.isalpha() and value.islower()
 
 
 def is_own_name(value):
@@ -25,7 +25,10 @@ def is_name_row(value, most):
     """Whether any value is a tuple of at most so many different names, without the shore."""
     if not isinstance(value, tuple) or len(value) > most:
         return False
-    return all([is_own_name(name) for name in value]) and len(set(value)) == len(value)
+    for name in value:
+        if not is_own_name(name):
+            return False
+    return len(set(value)) == len(value)
 
 
 def is_lead(value):

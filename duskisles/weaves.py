@@ -13,7 +13,8 @@ class Weave:
 
     def __init__(self, chip):
         self._chip = chip
-        self._now = ((), (first_state(chip.plan()),), None)
+        self._plan = chip.plan()
+        self._now = ((), (first_state(self._plan),), None)
         self._kept = None
 
     @classmethod
@@ -41,7 +42,7 @@ class Weave:
     @property
     def moments(self):
         """The bad moments of the present state."""
-        return faults_of(self._chip.plan(), self._now[1][-1])
+        return faults_of(self._plan, self._now[1][-1])
 
     @property
     def first(self):
@@ -53,7 +54,7 @@ class Weave:
         for index, event in enumerate(events):
             if not is_event(self._chip, event):
                 raise InvalidEvent(index)
-        plan = self._chip.plan()
+        plan = self._plan
         done, rows, first = self._now
         fresh = [rows[-1]]
         for index, event in enumerate(events):
@@ -97,7 +98,7 @@ class Weave:
 
     def __call__(self, event):
         """Whether any value is an event that can come now."""
-        return is_event(self._chip, event) and can_come(self._chip.plan(), self.state[0], event)
+        return is_event(self._chip, event) and can_come(self._plan, self.state[0], event)
 
     def states(self):
         """Yields the first state and the state behind each event that there is at the first request."""

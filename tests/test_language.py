@@ -17,7 +17,7 @@ BUILTINS = """len range enumerate zip min max sum abs sorted reversed int str bo
     AttributeError StopIteration NotImplemented""".split()
 METHODS = """append clear copy count endswith extend find get index insert isalnum isalpha isdigit islower isspace isupper
     items join keys ljust lower lstrip partition pop remove replace reverse rfind rjust rpartition rsplit rstrip setdefault
-    split splitlines startswith strip update upper values zfill bit_length add discard""".split()
+    split splitlines startswith strip update upper values zfill bit_length add discard isascii""".split()
 DUNDERS = """__init__ __eq__ __repr__ __str__ __len__ __enter__ __exit__ __call__ __iter__ __lt__ __le__ __gt__ __ge__ __ne__
     __add__ __sub__ __and__ __or__ __xor__ __neg__ __bool__ __contains__ __getitem__ __setitem__""".split()
 NEVER = "register mro elements open input law version_info with_traceback add_note".split()
