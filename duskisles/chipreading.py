@@ -98,7 +98,10 @@ def _is_plain(words, group, known):
     if first == "isle":
         amounts = CHOICES["amount"]
         return is_own_name(words[1]) and words[2] in amounts and words[3] in amounts
-    return words[1] == group[0][1] and PLACES[first] > PLACES[group[-1][0]] and _is_plain_part(words, known)
+    last = group[-1][0]
+    # Of so few lines, at least one of them the isle's own, not too many can be turns.
+    again = first == "turn" and last == "turn" and len(group) <= MOST_TURNS
+    return words[1] == group[0][1] and (again or PLACES[first] > PLACES[last]) and _is_plain_part(words, known)
 
 
 def _is_plain_clamp(words, known):

@@ -49,7 +49,10 @@ def are_stands(value, known):
     """Whether any value is a tuple that has for each of these dicts one of its keys, which are stands."""
     if not is_tuple(value, len(known)):
         return False
-    return all([_is_stand(stand, some) for stand, some in zip(value, known)])
+    for stand, some in zip(value, known):
+        if not _is_stand(stand, some):
+            return False
+    return True
 
 
 def _is_isle_state(isle, value):
@@ -74,4 +77,7 @@ def _is_stand(value, some):
     """Whether any value is a key of a dict whose keys are stands."""
     if not is_tuple(value, 5) or not isinstance(value[0], str) or not is_integer(value[1]):
         return False
-    return all([flag is None or isinstance(flag, bool) for flag in value[2:]]) and value in some
+    for flag in value[2:]:
+        if flag is not None and flag is not True and flag is not False:
+            return False
+    return value in some

@@ -132,16 +132,22 @@ class Grid:
         return self.found_held[key]
 
 
-def grid_on(plan, question):
-    """The grid of the rows of the table of a question of a plan."""
-    scope = scope_on(plan, question)
-    return Grid(scope, Crew(scope.looks(), plan.need_masks), Sight(scope, [0]))
-
-
 def grid_of(chip, question):
     """The grid of the rows of the table of a question, any value."""
-    scope = scope_of(chip, question)
-    return Grid(scope, Crew(scope.looks(), scope.of_plan.need_masks), Sight(scope, [0]))
+    return grid_in(scope_of(chip, question), {})
+
+
+def grid_on(plan, question):
+    """The grid of the rows of the table of a question of a plan."""
+    return grid_in(scope_on(plan, question), {})
+
+
+def grid_in(scope, crews):
+    """The grid of the rows of a scope. `crews` is a dict in which grids on the same ground keep their crews."""
+    key = scope.sign()
+    if key not in crews:
+        crews[key] = Crew(scope.looks(), scope.of_plan.need_masks)
+    return Grid(scope, crews[key], Sight(scope, [0]))
 
 
 def whole_grid_of(chip, question):

@@ -1,6 +1,6 @@
 """Judging a question: the least table, or a run at whose end it is bad."""
 
-from duskisles.grids import events_up_to, grid_of, grid_on, rows_that_come
+from duskisles.grids import events_up_to, grid_of, rows_that_come
 from duskisles.shortest import whole_run
 
 MOST_ROWS = 20000
@@ -15,9 +15,8 @@ def judged(chip, question, *, most=20000):
     return ("bad", whole_run(chip, question, events_up_to(grid, ahead, bad)))
 
 
-def table_on(plan, question):
-    """The least table of a question that is safe by a plan."""
-    grid = grid_on(plan, question)
+def table_of(grid):
+    """The least table of the question of a grid, one that is safe."""
     ahead, _ = rows_that_come(grid, MOST_ROWS)
     return _table(grid, ahead)
 

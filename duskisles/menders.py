@@ -1,9 +1,12 @@
 """Menders: all questions of a chip, asked with spots of it propped. Sets of spots are bits."""
 
 from duskisles.duals import least_sets
+from duskisles.forms import is_tuple
 from duskisles.proppings import Propping
-from duskisles.props import spot_row
+from duskisles.props import plan_with, spot_isles, spot_row
+from duskisles.runcheck import shows_run
 from duskisles.shortest import bad_run
+from duskisles.tablecheck import shows_table
 
 
 class Mender:
@@ -13,8 +16,9 @@ class Mender:
         self.of_chip = chip
         self.known = spot_row(chip)
         self.every_bit = (1 << len(self.known)) - 1
+        self.spot_rows = spot_isles(chip, self.known)
         crews = {}
-        self.propping_row = [Propping(chip.plan(), question, self.known, crews) for question in chip.questions]
+        self.propping_row = [Propping(chip.plan(), question, self.spot_rows, crews) for question in chip.questions]
 
     def bits_of(self, spots):
         """The bits of these spots."""
@@ -41,11 +45,29 @@ class Mender:
     def harm_of(self, left):
         """(question, events) with the first question that is bad, and a run that shows it."""
         row = [propping for propping in self.propping_row if propping.is_bad(left)]
-        return (row[0].question, bad_run(self.of_chip, row[0].plan_with(left), row[0].question))
+        return (row[0].question, bad_run(self.of_chip, row[0].grid_with(left)))
 
     def tables_of(self, left):
         """The tuple of the pairs (question, least table), if none is bad."""
         return tuple([(propping.question, propping.table_with(left)) for propping in self.propping_row])
+
+    def shows_safe(self, left, value):
+        """Whether any value is a tuple with a pair (question, table) for each question, in order."""
+        if not is_tuple(value, len(self.propping_row)):
+            return False
+        for propping, pair in zip(self.propping_row, value):
+            if not is_tuple(pair, 2) or pair[0] != propping.question:
+                return False
+            if not shows_table(propping.grid_with(left), pair[1]):
+                return False
+        return True
+
+    def shows_bad(self, left, question, events):
+        """Whether any values are a question and a run at whose end it is bad for the first time."""
+        if question not in self.of_chip.questions:
+            return False
+        plan = self.of_chip.plan()
+        return shows_run(self.of_chip, plan_with(plan, self.spot_rows, left, plan.tracks), question, events)
 
     def least_bad(self):
         """The list of the least sets of spots that are bad if they are left: the clauses."""

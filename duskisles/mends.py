@@ -4,9 +4,7 @@ from duskisles.duals import are_dual, least_covers, within_none
 from duskisles.errors import NotSafe, TooMany
 from duskisles.forms import is_ascending, is_tuple
 from duskisles.menders import Mender
-from duskisles.props import check_spots, is_spot, spot_row, with_propped
-from duskisles.tracks import mask_of
-from duskisles.verdict import lets_harm, lets_tables
+from duskisles.props import check_spots, is_spot
 
 MOST_SPOTS = 8
 
@@ -54,17 +52,16 @@ def mend_paper(chip):
 
 def lets_mends(chip, thing):
     """Whether any value is a right paper about which spots mend a chip."""
-    known = spot_row(chip)
+    mender = Mender(chip)
+    known = mender.known
     if not is_tuple(thing, 2) or not _are_rows(known, thing[0], 2) or not _are_rows(known, thing[1], 3):
         return False
-    bits = {spot: 1 << index for index, spot in enumerate(known)}
-    sets = [mask_of(row[0], bits) for row in thing[0]]
-    told = [mask_of(row[0], bits) for row in thing[1]]
+    sets = [mender.bits_of(row[0]) for row in thing[0]]
+    told = [mender.bits_of(row[0]) for row in thing[1]]
     if not within_none(sets) or not within_none(told) or not are_dual(sets, told, len(known)):
         return False
-    return (all([lets_tables(with_propped(chip, row), tables) for row, tables in thing[0]])
-            and all([lets_harm(with_propped(chip, _others(known, row)), question, events)
-                     for row, question, events in thing[1]]))
+    return (all([mender.shows_safe(mender.every_bit & ~mender.bits_of(row), tables) for row, tables in thing[0]])
+            and all([mender.shows_bad(mender.bits_of(row), question, events) for row, question, events in thing[1]]))
 
 
 def _small_mender(chip):
@@ -80,11 +77,6 @@ def _check_mended(mender):
     if mender.is_bad(0):
         question, events = mender.harm_of(0)
         raise NotSafe(question, events)
-
-
-def _others(known, row):
-    """The tuple of these spots without those of a row."""
-    return tuple([spot for spot in known if spot not in row])
 
 
 def _told(mender, masks):

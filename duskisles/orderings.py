@@ -1,6 +1,7 @@
 """Orderings: the questions of a chip, asked with other orders of the rows of an isle."""
 
-from duskisles.judge import table_on
+from duskisles.grids import grid_on
+from duskisles.judge import table_of
 from duskisles.probes import Probe
 from duskisles.shortest import bad_run
 
@@ -34,7 +35,7 @@ class Orderings:
         """(order, question, events) with the first question that is bad with an order, and a run that shows it."""
         question = self.bad_question(order)
         chip = self._chip_with(order)
-        return (order, question, bad_run(chip, chip.plan(), question))
+        return (order, question, bad_run(chip, grid_on(chip.plan(), question)))
 
     def tables_of(self, order, found):
         """The tuple of the pairs (question, least table) with an order that is safe. `found` is a dict with the tables
@@ -45,7 +46,7 @@ class Orderings:
             # The order says nothing to a question that does not ask for the isle.
             key = (question, order if probe.scope.cone_bits >> self.at & 1 else None)
             if key not in found:
-                found[key] = table_on(chip.plan(), question)
+                found[key] = table_of(grid_on(chip.plan(), question))
             rows.append((question, found[key]))
         return tuple(rows)
 

@@ -16,8 +16,9 @@ class Ground:
         self.needing_rows = [tuple([other for other, mask in enumerate(self.need_masks) if mask >> index & 1])
                              for index, _ in enumerate(isles)]
         self.needed_masks = _onward(self.need_masks)
-        # Looks that were asked for already, and tables of what events make of marks.
+        # Looks that were asked for already, and what events make of marks.
         self.found_looks = {}
+        self.found_marks = {}
         self.found_tables = {}
 
 

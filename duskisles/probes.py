@@ -5,7 +5,7 @@ that is not asleep has all up that it needs over others, so it is enough to look
 rows without turns only those words matter that change what is read. And isles that neither hang together by needs with
 the full one nor make marks dust do what they do whatever the rest does: of them only what can be seen matters."""
 
-from duskisles.crews import Crew
+from duskisles.crews import SEEN, Crew
 from duskisles.grids import Grid, first_bad
 from duskisles.looks import look_on
 from duskisles.rounds import Rounds
@@ -50,10 +50,22 @@ class Probe:
         rows = []
         left = self.asked_bits
         while left:
-            group = _hanging(self.of_plan, left & -left, self.asked_bits)
-            rows.extend(self._crew(group, None, None).every_seen())
+            bit = left & -left
+            group = _hanging(self.of_plan, bit, self.asked_bits)
+            rows.extend(self._seen_alone(bit) if group == bit else self._crew(group, None, None).every_seen())
             left = left & ~group
         return rows
+
+    def _seen_alone(self, bit):
+        """The list of all that can be seen of an isle that hangs with no other one, whoever asks for it."""
+        key = ("seen", bit)
+        if key not in self.crews:
+            index = bit.bit_length() - 1
+            isle = self.of_plan.isle_row[index]
+            flags = (False, True, True, True)
+            look = look_on(self.of_plan, index, flags, (isle.sleep, isle.wake), whole=False)
+            self.crews[key] = sorted({look.weight_of(code) & SEEN for code in look.nodes()})
+        return self.crews[key]
 
     def is_bad_with(self, at, rows):
         """Whether the question is bad if the isle with this index, one without turns, has these rows."""

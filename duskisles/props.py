@@ -2,6 +2,7 @@
 
 from duskisles.chips import Chip
 from duskisles.errors import NoSpot
+from duskisles.tracks import Track
 from duskisles.wires import Wire
 
 
@@ -34,6 +35,46 @@ def with_propped(chip, chosen):
     isles = [_propped_isle(chip[name], chosen) for name in chip.names]
     wires = [_propped_wire(chip.wire(name), chosen) for name in chip.wires]
     return Chip.of(isles, wires, chip.shore)
+
+
+def spot_isles(chip, known):
+    """The list of (bit, spot, isle) for these spots of the chip: the isle, as a bit, is the one whose power is used
+    there. Spots with lesser indexes have lesser bits."""
+    bits = chip.plan().bits
+    rows = []
+    for index, spot in enumerate(known):
+        if spot[0] == "leash":
+            name = chip[spot[1]].leash[spot[2]]
+        else:
+            station = chip.wire(spot[1]).stations[spot[2]]
+            name = station.on if spot[0] == "station" else station.line[spot[3]]
+        rows.append((1 << index, spot, bits[name]))
+    return rows
+
+
+def plan_with(plan, spot_row, left, tracks):
+    """The plan in which of these spots, rows as `spot_isles` tells them, those with these bits are left and no others,
+    and in which there are no tracks but these."""
+    leash_masks = [0 for _ in plan.isle_row]
+    # For each station of a wire the isle that is its place, and those of its line.
+    powers = {track.wire_name: [[0, 0] for _ in track.stops] for track in tracks}
+    for bit, spot, isle in spot_row:
+        if left & bit:
+            if spot[0] == "leash":
+                at = plan.index_of[spot[1]]
+                leash_masks[at] = leash_masks[at] | isle
+            elif spot[1] in powers:
+                power = powers[spot[1]][spot[2]]
+                part = 0 if spot[0] == "station" else 1
+                power[part] = power[part] | isle
+    return plan.powered(leash_masks, [_powered_track(track, powers[track.wire_name]) for track in tracks])
+
+
+def _powered_track(track, power):
+    """The track with these places and lines."""
+    stops = tuple([(station, place, owner, line, holds)
+                   for (station, _, owner, _, holds), (place, line) in zip(track.stops, power)])
+    return Track(track.wire_name, (track.from_place, track.to_place), stops, track.first_held)
 
 
 def _propped_isle(isle, chosen):

@@ -18,7 +18,8 @@ class Rounds:
         self.sight = sight
         # How dim it is if the isle is away: its leash may run over one whose leash runs over the isle.
         self.dim = plan.dim_of(self.at, 1 << self.at)
-        self.found_marks = {}
+        # What becomes of marks is the same in all rounds of isles that are alike in having kept and plain registers.
+        self.found_marks = plan.ground.found_marks.setdefault((self.of_isle.kept > 0, self.of_isle.plain > 0), {})
         self.found_kinds = {}
         self.found_rows = {}
 
@@ -46,7 +47,7 @@ class Rounds:
         for word in words:
             kept, put = WORD_FLAGS[word]
             flags = flags & kept | put
-            key = (word, flags & 5, marks)
+            key = (word, flags & 4, self.dim if flags & 1 else 0, marks)
             marks = self.found_marks[key] if key in self.found_marks else self._marks_behind(key)
             kind = self.found_kinds[flags] if flags in self.found_kinds else self._kind(flags)
             if marks[-1] >= kind:
@@ -54,15 +55,14 @@ class Rounds:
         return (flags, marks)
 
     def _marks_behind(self, key):
-        """The marks that there can be behind a word, and behind ticks, if these can be ahead of it: the clock and away
-        behind the word, in 4 and 1, are parts of the key."""
-        word, flags, marks = key
-        table_key = (word, self.dim if flags & 1 else 0)
-        if table_key not in self.tables:
-            self.tables[table_key] = mark_table(self.of_isle, *table_key)
-        table = self.tables[table_key]
+        """The marks that there can be behind a word, and behind ticks if the clock is on: a key has the word, the clock,
+        how dim it is behind it, and the marks that there can be ahead of it."""
+        word, clock, dim, marks = key
+        if (word, dim) not in self.tables:
+            self.tables[(word, dim)] = mark_table(self.of_isle, word, dim)
+        table = self.tables[(word, dim)]
         behind = [table[mark] for mark in marks]
-        self.found_marks[key] = self._ticked(behind) if flags == 4 else tuple(sorted(set(behind)))
+        self.found_marks[key] = self._ticked(behind) if clock and not dim else tuple(sorted(set(behind)))
         return self.found_marks[key]
 
     def _ticked(self, marks):

@@ -8,9 +8,13 @@ def lets_run(chip, question, thing):
     """Whether any value is a list of events that can be done, at whose end for the first time a question, any value,
     is bad."""
     check_question(chip, question)
+    return shows_run(chip, chip.plan(), question, thing)
+
+
+def shows_run(chip, plan, question, thing):
+    """The same for a question of the chip and a plan, which is that of the chip or of one with the same events."""
     if not isinstance(thing, list):
         return False
-    plan = chip.plan()
     state = first_state(plan)
     bad = False
     for event in thing:

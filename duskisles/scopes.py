@@ -43,6 +43,11 @@ class Scope:
             self.found_looks.extend(looks_at(self.of_plan, self.cone_bits, masks, whole))
         return self.found_looks
 
+    def sign(self):
+        """All that tells how the isles of the cone are looked at, but for the isles themselves."""
+        masks = [mask & self.cone_bits for mask in self.read_bits]
+        return ("rows", self.cone_bits, *masks, self.whole_at, self.of_plan.sleepless_mask)
+
     def whole_looks(self):
         """Looks at the isles of the cone by which everything is read of each."""
         return looks_at(self.of_plan, self.cone_bits, (0, 0, 0, 0), self.cone_bits)
