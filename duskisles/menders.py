@@ -3,22 +3,22 @@
 from duskisles.duals import least_sets
 from duskisles.forms import is_tuple
 from duskisles.proppings import Propping
-from duskisles.props import plan_with, spot_isles, spot_row
+from duskisles.props import plan_with, spot_isles
 from duskisles.runcheck import shows_run
 from duskisles.shortest import bad_run
 from duskisles.tablecheck import shows_table
 
 
 class Mender:
-    """A chip and its spots. The bits that are passed are those of the spots that are left, not propped."""
+    """A chip and its spots, ascending. The bits that are passed are those of the spots that are left, not propped."""
 
-    def __init__(self, chip):
+    def __init__(self, chip, known):
         self.of_chip = chip
-        self.known = spot_row(chip)
-        self.every_bit = (1 << len(self.known)) - 1
-        self.spot_rows = spot_isles(chip, self.known)
+        self.known = known
+        self.every_bit = (1 << len(known)) - 1
+        self.isle_rows = spot_isles(chip, known)
         crews = {}
-        self.propping_row = [Propping(chip.plan(), question, self.spot_rows, crews) for question in chip.questions]
+        self.propping_row = [Propping(chip.plan(), question, self.isle_rows, crews) for question in chip.questions]
 
     def bits_of(self, spots):
         """The bits of these spots."""
@@ -67,7 +67,7 @@ class Mender:
         if question not in self.of_chip.questions:
             return False
         plan = self.of_chip.plan()
-        return shows_run(self.of_chip, plan_with(plan, self.spot_rows, left, plan.tracks), question, events)
+        return shows_run(self.of_chip, plan_with(plan, self.isle_rows, left, plan.tracks), question, events)
 
     def least_bad(self):
         """The list of the least sets of spots that are bad if they are left: the clauses."""

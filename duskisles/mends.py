@@ -4,21 +4,22 @@ from duskisles.duals import are_dual, least_covers, within_none
 from duskisles.errors import NotSafe, TooMany
 from duskisles.forms import is_ascending, is_tuple
 from duskisles.menders import Mender
-from duskisles.props import check_spots, is_spot
+from duskisles.props import check_spots, is_spot, spot_row
 
 MOST_SPOTS = 8
 
 
 def mends(chip, *spots):
     """Whether these spots, any values, mend a chip."""
-    mender = Mender(chip)
-    check_spots(mender.known, spots)
+    known = spot_row(chip)
+    check_spots(known, spots)
+    mender = Mender(chip, known)
     return not mender.is_bad_once(mender.every_bit & ~mender.bits_of(spots))
 
 
 def mending(chip):
     """A tuple of (spot, question, events): spots that mend a chip, and for each what is bad without it."""
-    mender = Mender(chip)
+    mender = Mender(chip, spot_row(chip))
     _check_mended(mender)
     left = 0
     for index, _ in enumerate(mender.known):
@@ -52,10 +53,10 @@ def mend_paper(chip):
 
 def lets_mends(chip, thing):
     """Whether any value is a right paper about which spots mend a chip."""
-    mender = Mender(chip)
-    known = mender.known
+    known = spot_row(chip)
     if not is_tuple(thing, 2) or not _are_rows(known, thing[0], 2) or not _are_rows(known, thing[1], 3):
         return False
+    mender = Mender(chip, known)
     sets = [mender.bits_of(row[0]) for row in thing[0]]
     told = [mender.bits_of(row[0]) for row in thing[1]]
     if not within_none(sets) or not within_none(told) or not are_dual(sets, told, len(known)):
@@ -66,10 +67,10 @@ def lets_mends(chip, thing):
 
 def _small_mender(chip):
     """The mender of a chip. Raises TooMany if there are more spots than sets of them can be gone through."""
-    mender = Mender(chip)
-    if len(mender.known) > MOST_SPOTS:
+    known = spot_row(chip)
+    if len(known) > MOST_SPOTS:
         raise TooMany(MOST_SPOTS)
-    return mender
+    return Mender(chip, known)
 
 
 def _check_mended(mender):

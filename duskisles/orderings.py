@@ -34,6 +34,7 @@ class Orderings:
     def harm_of(self, order):
         """(order, question, events) with the first question that is bad with an order, and a run that shows it."""
         question = self.bad_question(order)
+        self.forget()
         chip = self._chip_with(order)
         return (order, question, bad_run(chip, grid_on(chip.plan(), question)))
 

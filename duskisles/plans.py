@@ -78,12 +78,6 @@ class Plan:
         """The plan in which leashes and tracks are these."""
         return Plan(self.ground, leash_masks, self.sleepless_mask, tracks)
 
-    def resting(self, mask):
-        """The plan in which these isles rest, too."""
-        for index, needs in enumerate(self.needed_masks):
-            mask = mask | needs if mask >> index & 1 else mask
-        return Plan(self.ground, self.leash_masks, self.sleepless_mask | mask, self.tracks)
-
 
 def plan_of(isles, wires):
     """The plan of these isles and wires, both by names."""

@@ -52,13 +52,13 @@ def spot_isles(chip, known):
     return rows
 
 
-def plan_with(plan, spot_row, left, tracks):
-    """The plan in which of these spots, rows as `spot_isles` tells them, those with these bits are left and no others,
-    and in which there are no tracks but these."""
+def plan_with(plan, rows, left, tracks):
+    """The plan in which of these spots, as `spot_isles` tells them, those with these bits are left and no others, and
+    in which there are no tracks but these."""
     leash_masks = [0 for _ in plan.isle_row]
     # For each station of a wire the isle that is its place, and those of its line.
     powers = {track.wire_name: [[0, 0] for _ in track.stops] for track in tracks}
-    for bit, spot, isle in spot_row:
+    for bit, spot, isle in rows:
         if left & bit:
             if spot[0] == "leash":
                 at = plan.index_of[spot[1]]

@@ -55,8 +55,8 @@ class Rounds:
         return (flags, marks)
 
     def _marks_behind(self, key):
-        """The marks that there can be behind a word, and behind ticks if the clock is on: a key has the word, the clock,
-        how dim it is behind it, and the marks that there can be ahead of it."""
+        """The marks that there can be behind a word, and behind ticks if the clock is on: a key has the word, the
+        clock, how dim it is behind it, and the marks that there can be ahead of it."""
         word, clock, dim, marks = key
         if (word, dim) not in self.tables:
             self.tables[(word, dim)] = mark_table(self.of_isle, word, dim)

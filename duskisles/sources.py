@@ -8,11 +8,10 @@ class Sources:
     question of the scope asks for; `seen_row` is all that can be seen of isles that hang together."""
 
     def __init__(self, scope, spot_row, seen_row):
-        self.spot_row = spot_row
         bits = scope.of_plan.bits
         self.leash_row = [(bit, bits[spot[1]], isle) for bit, spot, isle in spot_row if spot[0] == "leash"]
-        # (begins, isles): dust comes from an isle that is away, if one of `begins`, pairs (isle, bit of its spot), is
-        # dark by it, and if it is one of these isles; while others are away something stands in the way.
+        # Pairs (begins, isles): dust comes if an isle of `begins`, pairs (isle, bit of its spot), is dark by one of
+        # these isles, as they can be away while nothing stands in its way.
         self.source_row = _sources(scope, spot_row, seen_row)
 
     def way(self, left):

@@ -1,7 +1,9 @@
 """[24], duskisles/texts.py: what Chip.read and str(chip) tell."""
 
+import random
 import unittest
 
+from duskisles.chipreading import CHOICES, FORMS, _is_plain, _wrong_word
 from duskisles.chips import Chip
 from duskisles.errors import InvalidText
 from duskisles.isles import Isle
@@ -225,6 +227,59 @@ class RefusedTest(unittest.TestCase):
                 ("\n".join(["shore 1"] + [f"isle {letter} 1 1" for letter in "abcdefghi"]), "InvalidChip('isles', None)"),
                 ("\n".join([head] + ["wire x a b"] * 25), "InvalidChip('wires', None)")):
             self.assertEqual(raised(Chip.read, text), told)
+
+
+class PlainTest(unittest.TestCase):
+
+    WORDS = ["a", "b", "shore", "abcdefgh", "abcdefghi", "A", "", "0", "1", "3", "4", "9", "10", "-1", "still", "lit",
+             "sleep", "wake", "a1"]
+
+    def line(self, dice, first, same):
+        """The words of a line of a form, some of them any words, for a group of this name."""
+        slots, tail, least, most = FORMS.get(first, (("same", "name"), "name", 0, 6))
+        words = [first]
+        for kind in [*slots, *[tail for _ in range(dice.randint(max(least - 1, 0), most + 1))]]:
+            word = same if kind == "same" else dice.choice(CHOICES.get(kind, ("a", "b", "shore", "abcdefgh")))
+            words.append(word if dice.random() < 0.9 else dice.choice(self.WORDS))
+        return words
+
+    def groups(self):
+        """Yields what may stand ahead of a line: groups of lines, as lists of words."""
+        text = "shore 1\nisle a 1 1\nleash a b\nneeds a b\nrests a\nsleep a still\nwake a lit\n" + "turn a sleep 1 0\n" * 6
+        text += "isle b 1 1\nwire a a b\n" + "pass a b\n" * 5 + "wire b a b"
+        groups = []
+        for line in text.split("\n"):
+            words = line.split(" ")
+            if words[0] in ("shore", "isle", "wire"):
+                groups.append([])
+            groups[-1].append(words)
+            yield [list(group) for group in groups]
+
+    def test_what_is_plainly_right_is_right(self):
+        dice = random.Random(0)
+        count = {True: 0, False: 0}
+        plain = {first: 0 for first in FORMS}
+        for groups in self.groups():
+            for first in [*FORMS, "", "a", "wires"]:
+                for _ in range(200):
+                    words = self.line(dice, first, groups[-1][0][1])
+                    kept = [list(words), [list(group) for group in groups]]
+                    wrong = _wrong_word(words, groups)
+                    if _is_plain(words, groups[-1], {}):
+                        self.assertIsNone(wrong, (words, groups))
+                        plain[first] += 1
+                    self.assertEqual([words, groups], kept)
+                    count[wrong is None] += 1
+        self.assertTrue(min(count.values()) > 500, count)
+        self.assertEqual([first for first in plain if plain[first] < 5], ["shore"])
+
+    def test_words_that_are_known(self):
+        groups = [[["shore", "1"]], [["wire", "a", "a", "b"]]]
+        known = {}
+        self.assertIs(_is_plain(["hold", "a", "c", "b", "d"], groups[1], known), True)
+        self.assertEqual(sorted(known), ["b", "c", "d"])
+        self.assertIs(_is_plain(["hold", "a", "c", "B", "d"], groups[1], known), False)
+        self.assertEqual(sorted(known), ["b", "c", "d"])
 
 
 if __name__ == "__main__":
