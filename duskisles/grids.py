@@ -74,7 +74,8 @@ class Grid:
 
     def number_for(self, row):
         """The number of a row."""
-        return self.packed(self.crew.sum_of(row[0]), *row[1:])
+        stands, marks, held = row
+        return self.packed(self.crew.sum_of(stands), marks, held)
 
     def packed(self, number, marks, held):
         """The number of a row with this number of the crew, these marks and these held marks."""

@@ -91,7 +91,8 @@ class Probe:
         if not self.core_bits:
             return 0 if sight.kind_of(0) == ALWAYS_BAD else None
         if self.alone:
-            return self.core_bits if rounds.are_bad(*self._rows(self.whole_at, at, cut)) else None
+            sleep, wake = self._rows(self.whole_at, at, cut)
+            return self.core_bits if rounds.are_bad(sleep, wake) else None
         grid = Grid(self.scope, self._crew(self.core_bits, at, cut), sight)
         ahead, row = first_bad(grid)
         if row is None:

@@ -161,6 +161,16 @@ class LanguageTest(unittest.TestCase):
                 if isinstance(node, (ast.FunctionDef, ast.ClassDef)):
                     self.assertTrue(all(self.known(each) for each in node.decorator_list), where)
 
+    def test_stars_in_calls(self):
+        for name, _, tree in files():
+            for node in ast.walk(tree):
+                if not isinstance(node, ast.Call):
+                    continue
+                stars = [each.value for each in node.args if isinstance(each, ast.Starred)]
+                for each in stars + [each.value for each in node.keywords if each.arg is None]:
+                    plain = each.value if isinstance(each, ast.Attribute) else each
+                    self.assertIsInstance(plain, (ast.Name, ast.Constant, ast.List, ast.Tuple, ast.Dict), (name, node.lineno))
+
     def known(self, decorator):
         if isinstance(decorator, ast.Attribute):
             return decorator.attr == "setter"

@@ -56,16 +56,20 @@ class MendersTest(unittest.TestCase):
             self.assertIs(other.is_bad(left), len(told) > 0)
         for propping in other.propping_row:
             rows = [left for left in bad if propping.question in bad[left]]
-            least = [left & propping.own_bits for left in rows if not any(row != left and row & left == row for row in rows)]
-            self.assertEqual(sorted(propping.least_bad()), sorted(least))
+            self.assertEqual(sorted(propping.least_bad()), [left & propping.own_bits for left in self.least(rows)])
         rows = [left for left in bad if bad[left]]
-        self.assertEqual(sorted(other.least_bad()), sorted(left for left in rows if not any(row != left and row & left == row for row in rows)))
+        self.assertEqual(sorted(other.least_bad()), self.least(rows))
         return len(rows), len(masks)
+
+    def least(self, rows):
+        """Those of these sets, as bits, within which there is no other one, ascending."""
+        return sorted(left for left in rows if not any(row != left and row & left == row for row in rows))
 
     def test_chips_by_chance(self):
         dice = random.Random(7)
         some = 0
-        for kinds in ({"whole": 1, "turns": 0}, {"whole": 0.9, "turns": 1, "needs": 2, "leash": 2}, {"isles": 2, "wires": 2, "whole": 0.6}, {"isles": 4, "leash": 2, "whole": 1}):
+        for kinds in ({"whole": 1, "turns": 0}, {"whole": 0.9, "turns": 1, "needs": 2, "leash": 2},
+                      {"isles": 2, "wires": 2, "whole": 0.6}, {"isles": 4, "leash": 2, "whole": 1}):
             for chip in chips(repr(kinds), 40, **kinds):
                 bad, count = self.compare(chip, dice)
                 some += 0 < bad < count
@@ -74,7 +78,8 @@ class MendersTest(unittest.TestCase):
     def test_ways_of_dust(self):
         still = Isle("b", sleep=("still",), wake=("go",))
         ring = (Isle("a", leash=("c",)), still, Isle("c", leash=("d",)), Isle("d", leash=("a",)))
-        for stations in ((), (Pass("a"),), (Clamp("a", "b", line=("d",)),), (Pass("c"), Clamp("shore", "a", line=("c",))), (Holding("c", "a"),), (Holding("c", "a"), Clamp("b", "b"))):
+        for stations in ((), (Pass("a"),), (Clamp("a", "b", line=("d",)),), (Holding("c", "a"),),
+                         (Pass("c"), Clamp("shore", "a", line=("c",))), (Holding("c", "a"), Clamp("b", "b"))):
             for ends in (("a", "b"), ("shore", "b"), ("b", "shore")):
                 self.compare(Chip(*ring, wires=(Wire("x", *ends, *stations),)), random.Random(0))
 
@@ -84,7 +89,8 @@ class MendersTest(unittest.TestCase):
             for left in range(1 << len(rows)):
                 plan = plan_with(chip.plan(), rows, left, chip.plan().tracks)
                 other = with_propped(chip, [spot for bit, spot, _ in rows if not left & bit]).plan()
-                self.assertEqual((plan.leash_masks, plan.under_masks, plan.sleepless_mask), (other.leash_masks, other.under_masks, other.sleepless_mask))
+                self.assertEqual([plan.leash_masks, plan.under_masks, plan.sleepless_mask],
+                                 [other.leash_masks, other.under_masks, other.sleepless_mask])
                 self.assertEqual([(track.wire_name, track.power_steps(), track.first_held) for track in plan.tracks],
                                  [(track.wire_name, track.power_steps(), track.first_held) for track in other.tracks])
 

@@ -42,7 +42,8 @@ class ProbesTest(unittest.TestCase):
         return answers
 
     def test_chips_by_chance(self):
-        for kinds in ({}, {"whole": 1, "turns": 0}, {"isles": 4, "needs": 2, "leash": 2}, {"whole": 1, "turns": 2, "needs": 2}, {"isles": 2, "turns": 4, "whole": 0}):
+        for kinds in ({}, {"whole": 1, "turns": 0}, {"isles": 4, "needs": 2, "leash": 2},
+                      {"whole": 1, "turns": 2, "needs": 2}, {"isles": 2, "turns": 4, "whole": 0}):
             dice = random.Random(repr(kinds))
             answers = self.compare([made_chip(dice, **kinds) for _ in range(250)])
             self.assertTrue(min(answers.values()) > 150, answers)
@@ -59,20 +60,24 @@ class ProbesTest(unittest.TestCase):
         # What is dark by a ring of leashes stays so as long as one is away, and shadows are dust by it.
         for sleeps in (True, False):
             for kept in (0, 1):
-                chip = Chip(Isle("a", kept=kept, leash=("b",)), Isle("b", leash=("a",), sleeps=sleeps), wires=(Wire("x", "a", "b", Clamp("b", "a")),))
+                chip = Chip(Isle("a", kept=kept, leash=("b",)), Isle("b", leash=("a",), sleeps=sleeps),
+                            wires=(Wire("x", "a", "b", Clamp("b", "a")),))
                 self.compare([chip])
 
     def test_isles_that_only_needs_tie_together(self):
         # b and c say nothing but by their needs: a may wake only if c is up, over b.
         chain = (Isle("a", needs=("b",)), Isle("b", needs=("c",)), Isle("c", kept=0), Isle("d"))
-        for stations in ((Pass("c"),), (Clamp("c", "a"),), (Clamp("d", "a", line=("c",)),), (Holding("c", "a"),), (Holding("d", "c"), Pass("c"))):
+        for stations in ((Pass("c"),), (Clamp("c", "a"),), (Clamp("d", "a", line=("c",)),), (Holding("c", "a"),),
+                         (Holding("d", "c"), Pass("c"))):
             for ends in (("a", "d"), ("d", "a"), ("shore", "a")):
                 self.compare([Chip(*chain, wires=(Wire("x", *ends, *stations),))])
 
     def test_the_first_row_may_be_bad_where_isles_are_left_out(self):
         # The place c may be dark while all else is as at first.
-        chip = Chip(Isle("a"), Isle("b", needs=("a",)), Isle("c", sleep=("dark", "still"), wake=("go",)), wires=(Wire("x", "a", "b", Pass("c")),))
-        self.assertEqual([Probe(chip.plan(), question, {}).is_bad() for question in chip.questions], [False, False, True, True])
+        chip = Chip(Isle("a"), Isle("b", needs=("a",)), Isle("c", sleep=("dark", "still"), wake=("go",)),
+                    wires=(Wire("x", "a", "b", Pass("c")),))
+        self.assertEqual([Probe(chip.plan(), question, {}).is_bad() for question in chip.questions],
+                         [False, False, True, True])
 
     def test_other_orders(self):
         count = {True: 0, False: 0}
@@ -94,11 +99,14 @@ class ProbesTest(unittest.TestCase):
         self.assertTrue(min(count.values()) > 200, count)
 
     def test_words_that_do_not_matter(self):
-        chip = Chip(Isle("a", kept=0), Isle("b"), Isle("c"), Isle("d", sleeps=False), wires=(Wire("x", "a", "b", Clamp("c", "b")), Wire("y", "b", "shore")))
-        told = {name: [set(Probe(chip.plan(), question, {}).words_of(chip.names.index(name))) for question in chip.questions] for name in chip.names}
+        chip = Chip(Isle("a", kept=0), Isle("b"), Isle("c"), Isle("d", sleeps=False),
+                    wires=(Wire("x", "a", "b", Clamp("c", "b")), Wire("y", "b", "shore")))
+        told = {name: [set(Probe(chip.plan(), question, {}).words_of(index)) for question in chip.questions]
+                for index, name in enumerate(chip.names)}
         away, clock, shut = {"dark", "lit"}, {"still", "go"}, {"shut", "open"}
         self.assertEqual(told["a"], [away | clock | {"reset"}, set(), set(), set(), away | {"reset"}, set()])
-        self.assertEqual(told["b"], [set(), away | clock | {"save", "back", "reset"}, set(), set(), clock | shut, away | clock | {"save", "back", "reset"}])
+        every = away | clock | {"save", "back", "reset"}
+        self.assertEqual(told["b"], [set(), every, set(), set(), clock | shut, every])
         self.assertEqual(told["c"], [set(), set(), away | clock | {"save", "back", "reset"}, set(), away, set()])
         self.assertEqual(told["d"], [set()] * 6)
 
@@ -106,17 +114,20 @@ class ProbesTest(unittest.TestCase):
 class MarksTest(unittest.TestCase):
 
     def test_numbers_ascend_as_marks_do(self):
-        self.assertEqual(list(MARK_ROW), sorted(itertools.product(("clean", "older", "dust"), ("clean", "dust"), ("same", "older", "dust"))))
+        every = itertools.product(("clean", "older", "dust"), ("clean", "dust"), ("same", "older", "dust"))
+        self.assertEqual(list(MARK_ROW), sorted(every))
         self.assertEqual([mark_number(marks_of(number)) for number in range(18)], list(range(18)))
 
     def test_tables(self):
         for kept, plain in ((1, 1), (2, 0), (0, 3)):
             isle = Isle("a", kept=kept, plain=plain)
-            able = [marks for marks in MARK_ROW if (kept or (marks[0], marks[2]) == ("clean", "same")) and (plain or marks[1] == "clean")]
+            able = [marks for marks in MARK_ROW
+                    if (kept or (marks[0], marks[2]) == ("clean", "same")) and (plain or marks[1] == "clean")]
             for word, dim in itertools.product((None, "tick", *Isle.SLEEP, *Isle.WAKE), (0, 1, 2)):
                 table = mark_table(isle, word, dim)
                 for marks in able:
-                    self.assertEqual(marks_of(table[mark_number(marks)]), marks_behind(isle, marks, word, dim > 0, dim == 2), (kept, plain, word, dim, marks))
+                    self.assertEqual(marks_of(table[mark_number(marks)]),
+                                     marks_behind(isle, marks, word, dim > 0, dim == 2), (kept, plain, word, dim, marks))
 
 
 class PlansTest(unittest.TestCase):

@@ -6,10 +6,13 @@ import unittest
 
 import oraclepapers
 from duskisles.isles import Isle
-from duskisles.rows import WORD_PAIRS, broken, candidates_of, first_order, follows, keeps_all, many_orders, orders_with, swapped
+from duskisles.rows import (WORD_PAIRS, broken, candidates_of, first_order, follows, keeps_all, many_orders,
+                            orders_with, swapped)
 
-ISLES = [Isle("a"), Isle("a", sleep=("dark",), wake=("lit",)), Isle("a", sleep=("save", "dark", "still"), wake=("go", "open", "lit")),
-         Isle("a", sleep=("shut", "dark"), wake=("back", "reset", "go", "lit")), Isle("a", sleep=("still", "dark"), wake=("open", "back"))]
+ISLES = [Isle("a"), Isle("a", sleep=("dark",), wake=("lit",)),
+         Isle("a", sleep=("save", "dark", "still"), wake=("go", "open", "lit")),
+         Isle("a", sleep=("shut", "dark"), wake=("back", "reset", "go", "lit")),
+         Isle("a", sleep=("still", "dark"), wake=("open", "back"))]
 
 
 class RowsTest(unittest.TestCase):
@@ -25,7 +28,8 @@ class RowsTest(unittest.TestCase):
 
     def test_orders_that_keep_pairs(self):
         for isle, pairs in self.some_pairs():
-            told = [order for order in oraclepapers.orders(isle) if all(oraclepapers.keeps(order, pair) for pair in pairs)]
+            told = [order for order in oraclepapers.orders(isle)
+                    if all(oraclepapers.keeps(order, pair) for pair in pairs)]
             self.assertEqual(orders_with(isle, pairs), told)
             self.assertEqual(first_order(isle, pairs), told[0])
             self.assertEqual(many_orders(isle, pairs), len(told))
