@@ -19,15 +19,15 @@ def _isle_lines(isle):
     """The list of the lines of an isle; what is the default needs none."""
     lines = [f"isle {isle.name} {isle.kept} {isle.plain}"]
     if isle.leash != ():
-        lines.append(_line("leash", isle.name, isle.leash))
+        lines.append(_kind_line("leash", isle.name, isle.leash))
     if isle.needs != ():
-        lines.append(_line("needs", isle.name, isle.needs))
+        lines.append(_kind_line("needs", isle.name, isle.needs))
     if not isle.sleeps:
         lines.append(f"rests {isle.name}")
     if isle.sleep != Isle.SLEEP:
-        lines.append(_line("sleep", isle.name, isle.sleep))
+        lines.append(_kind_line("sleep", isle.name, isle.sleep))
     if isle.wake != Isle.WAKE:
-        lines.append(_line("wake", isle.name, isle.wake))
+        lines.append(_kind_line("wake", isle.name, isle.wake))
     lines.extend([f"turn {isle.name} {row} {begin} {end}" for row, begin, end in isle.turns])
     return lines
 
@@ -35,12 +35,12 @@ def _isle_lines(isle):
 def _station_line(name, station):
     """The line of a station of the wire with this name."""
     if isinstance(station, Holding):
-        return _line("hold", name, (station.on, station.owner, *station.line))
+        return _kind_line("hold", name, (station.on, station.owner, *station.line))
     if isinstance(station, Clamp):
-        return _line("clamp", name, (station.on, station.owner, str(station.gives), *station.line))
-    return _line("pass", name, (station.on,))
+        return _kind_line("clamp", name, (station.on, station.owner, str(station.gives), *station.line))
+    return _kind_line("pass", name, (station.on,))
 
 
-def _line(kind, name, words):
+def _kind_line(kind, name, words):
     """The line of a kind, of the isle or wire with this name, with more words."""
     return " ".join([kind, name, *words])

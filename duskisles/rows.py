@@ -34,7 +34,11 @@ def is_arranged(value, words):
 def keeps(order, pair):
     """Whether the first word of a pair stands ahead of the second one; both stand in a row of the order."""
     row = order[0] if pair[0] in order[0] else order[1]
-    return row.index(pair[0]) < row.index(pair[1])
+    # What `in` of Orders runs must call no `index`, as errors hold an attribute of that name.
+    place = 0
+    while row[place] not in pair:
+        place += 1
+    return row[place] == pair[0]
 
 
 def keeps_all(order, pairs):

@@ -6,7 +6,7 @@ import unittest
 
 import oraclepapers
 from duskisles.isles import Isle
-from duskisles.rows import (WORD_PAIRS, broken, candidates_of, first_order, follows, keeps_all, many_orders,
+from duskisles.rows import (WORD_PAIRS, broken, candidates_of, first_order, follows, keeps, keeps_all, many_orders,
                             orders_with, swapped)
 
 ISLES = [Isle("a"), Isle("a", sleep=("dark",), wake=("lit",)),
@@ -25,6 +25,16 @@ class RowsTest(unittest.TestCase):
             yield isle, pairs
             for _ in range(30):
                 yield isle, tuple(pair for pair in pairs if dice.random() < 0.5)
+
+    def test_one_word_ahead_of_another(self):
+        for isle in ISLES:
+            for order in oraclepapers.orders(isle):
+                for pair in candidates_of(isle):
+                    self.assertIs(keeps(order, pair), oraclepapers.keeps(order, pair))
+                    self.assertIs(keeps(order, broken(pair)), not keeps(order, pair))
+                kept = [pair for pair in candidates_of(isle) if oraclepapers.keeps(order, pair)]
+                self.assertTrue(keeps_all(order, ()) and keeps_all(order, kept))
+                self.assertIs(keeps_all(order, candidates_of(isle)), len(kept) == len(candidates_of(isle)))
 
     def test_orders_that_keep_pairs(self):
         for isle, pairs in self.some_pairs():
